@@ -1,0 +1,50 @@
+"""Every name of the interface stands in the file under which the document lists it, with its parameters."""
+
+import importlib
+import inspect
+import unittest
+
+CONSTANTS = {
+    "wheelgrown.base.words": {"MAX_LETTERS": 8, "MAX_FIGURES": 60},
+    "wheelgrown.base.webs": {"MAX_PLACES": 16, "MAX_TIES": 60},
+}
+FUNCTIONS = {
+    "wheelgrown.base.words": (
+        "is_integer(value)", "is_count(value)", "is_name(value)", "are_names(value)", "is_naming(names, value)"),
+    "wheelgrown.base.webs": ("full_web(places)", "ring_web(ring)"),
+}
+METHODS = (
+    "neighbours(self, place)", "common(self, a, b)", "is_tied(self, a, b)", "with_tie(self, a, b)", "without_tie(self, a, b)",
+    "with_place(self, name)", "without_places(self, places)", "drawn_together(self, a, b)", "is_thin(self, a, b)",
+    "renamed(self, names)", "__init__(self, places, ties)",
+)
+OPERATORS = ("__add__", "__sub__", "__invert__", "__contains__", "__len__", "__iter__", "__eq__", "__str__")
+
+
+class InterfaceTest(unittest.TestCase):
+    def test_constants(self):
+        for module, values in CONSTANTS.items():
+            for name, value in values.items():
+                self.assertEqual(getattr(importlib.import_module(module), name), value)
+
+    def test_functions(self):
+        for module, heads in FUNCTIONS.items():
+            for head in heads:
+                function = getattr(importlib.import_module(module), head.split("(")[0])
+                self.assertEqual(function.__module__, module)
+                self.assertEqual(function.__name__ + str(inspect.signature(function)), head)
+
+    def test_web(self):
+        own = vars(importlib.import_module("wheelgrown.base.webs").Web)
+        for head in METHODS:
+            self.assertEqual(head.split("(")[0] + str(inspect.signature(own[head.split("(")[0]])), head)
+        for name in OPERATORS:
+            self.assertTrue(callable(own[name]), name)
+        for name in ("places", "ties", "lines", "lots", "hangs"):
+            self.assertIsInstance(own[name], property)
+        self.assertEqual(str(inspect.signature(own["from_lines"].__func__)), "(cls, *lines)")
+        self.assertEqual(str(inspect.signature(own["of_ties"].__func__)), "(cls, *ties)")
+
+
+if __name__ == "__main__":
+    unittest.main()

@@ -1,0 +1,174 @@
+"""The rules of form for the files of the package, as far as a look at their text can tell them."""
+
+import ast
+import builtins
+import pathlib
+import re
+import unittest
+
+FOLDER = pathlib.Path(__file__).resolve().parent.parent / "wheelgrown"
+FILES = sorted(path for path in FOLDER.rglob("*") if path.is_file() and "__pycache__" not in path.parts)
+LIBRARY = {"heapq", "math", "itertools", "collections"}
+BUILTINS = set(
+    "len range enumerate zip min max sum abs sorted reversed int str bool list tuple dict set isinstance ord repr any all "
+    "divmod iter next Exception ValueError TypeError KeyError IndexError LookupError ZeroDivisionError ArithmeticError "
+    "OverflowError RuntimeError NotImplementedError NotImplemented property classmethod staticmethod".split())
+DOUBLE = set(
+    "init eq repr str len enter exit call iter lt le gt ge ne add sub mul floordiv mod pow and or xor lshift rshift neg pos "
+    "invert abs bool contains getitem setitem".split())
+METHODS = set(
+    "append clear copy count endswith extend find get index insert isalnum isalpha isdigit islower isspace isupper items "
+    "join keys ljust lower lstrip partition pop remove replace reverse rfind rjust rpartition rsplit rstrip setdefault split "
+    "splitlines startswith strip update upper values zfill bit_length add discard popleft appendleft".split())
+BARRED = (
+    "type typing enum Enum Flag Generic Protocol ABC namedtuple NamedTuple TypedDict register mro elements law global "
+    "async await exec eval globals locals vars open input").split()
+TREES = {path: ast.parse(path.read_text(encoding="utf-8")) for path in FILES if path.suffix == ".py"}
+
+
+def name_of(path):
+    parts = (FOLDER.name,) + path.relative_to(FOLDER).with_suffix("").parts
+    return ".".join(part for part in parts if part != "__init__")
+
+
+def nodes(kind):
+    return [(path, node) for path, tree in TREES.items() for node in ast.walk(tree) if isinstance(node, kind)]
+
+
+def bound_names():
+    """All names that are bound somewhere, with their files."""
+    found = [(path, node.id) for path, node in nodes(ast.Name) if not isinstance(node.ctx, ast.Load)]
+    found += [(path, node.arg) for path, node in nodes(ast.arg)]
+    found += [(path, node.name) for path, node in nodes((ast.FunctionDef, ast.ClassDef))]
+    return found
+
+
+class FilesTest(unittest.TestCase):
+    def test_files_and_folders(self):
+        for path in FILES:
+            self.assertRegex(path.name, r"^[a-z0-9_]+\.py$")
+            self.assertTrue((path.parent / "__init__.py").is_file(), path)
+
+    def test_sizes_and_characters(self):
+        for path in FILES:
+            text = path.read_text(encoding="utf-8")
+            self.assertTrue(all(character == "\n" or " " <= character <= "~" for character in text), path)
+            self.assertLessEqual(len(text.splitlines()), 399, path)
+            self.assertLessEqual(max(map(len, text.splitlines())), 120, path)
+        for path, node in nodes(ast.FunctionDef):
+            self.assertLessEqual(node.end_lineno - node.lineno + 1, 40, (path, node.name))
+
+    def test_module_level(self):
+        kinds = (ast.ImportFrom, ast.FunctionDef, ast.ClassDef, ast.Assign, ast.Expr)
+        for path, tree in TREES.items():
+            for node in tree.body:
+                self.assertIsInstance(node, kinds, path)
+                if isinstance(node, ast.Expr):
+                    self.assertIsInstance(node.value, ast.Constant, path)
+
+    def test_imports(self):
+        self.assertEqual(nodes(ast.Import), [])
+        for path, node in nodes(ast.ImportFrom):
+            self.assertEqual(node.level, 0, path)
+            if node.module in LIBRARY:
+                continue
+            home = {name_of(other): tree for other, tree in TREES.items()}[node.module]
+            defined = {item.name for item in home.body if isinstance(item, (ast.FunctionDef, ast.ClassDef))}
+            defined |= {item.targets[0].id for item in home.body if isinstance(item, ast.Assign)}
+            for alias in node.names:
+                self.assertIn(alias.name, defined, path)
+                self.assertIsNone(alias.asname, path)
+
+    def test_imports_lead_down_only(self):
+        needs = {name_of(path): set() for path in TREES}
+        for path, node in nodes(ast.ImportFrom):
+            if node.module not in LIBRARY:
+                needs[name_of(path)].add(node.module)
+        while needs:
+            free = [name for name, others in needs.items() if not others & set(needs)]
+            self.assertNotEqual(free, [], needs)
+            for name in free:
+                del needs[name]
+
+
+class NamesTest(unittest.TestCase):
+    def test_builtins(self):
+        for path, node in nodes(ast.Name):
+            if hasattr(builtins, node.id):
+                self.assertIn(node.id, BUILTINS, path)
+
+    def test_bound_names(self):
+        for path, name in bound_names():
+            self.assertNotIn(name, BARRED, path)
+            if name.startswith("__"):
+                self.assertIn(name.strip("_"), DOUBLE, path)
+            else:
+                self.assertFalse(hasattr(builtins, name), (path, name))
+
+    def test_names_are_bound_once(self):
+        for path, tree in TREES.items():
+            names = [node.name for node in tree.body if isinstance(node, (ast.FunctionDef, ast.ClassDef))]
+            names += [node.targets[0].id for node in tree.body if isinstance(node, ast.Assign)]
+            taken = [alias.name for node in tree.body if isinstance(node, ast.ImportFrom) for alias in node.names]
+            self.assertEqual(len(names + taken), len(set(names + taken)), path)
+            classes = [node.name for node in tree.body if isinstance(node, ast.ClassDef)]
+            inner = [name for other, name in bound_names() if other == path]
+            for name in taken + classes:
+                self.assertEqual(inner.count(name), classes.count(name), (path, name))
+
+    def test_barred_words(self):
+        for path, tree in TREES.items():
+            for node in ast.walk(tree):
+                words = [getattr(node, part, None) for part in ("id", "attr", "name", "arg")]
+                self.assertFalse([word for word in words if word in BARRED], path)
+                if isinstance(node, ast.Constant) and isinstance(node.value, str):
+                    self.assertNotIn("%", node.value, path)
+
+    def test_methods_of_builtin_values(self):
+        own = {node.name for _, node in nodes(ast.FunctionDef)}
+        for path, node in nodes(ast.Call):
+            if isinstance(node.func, ast.Attribute):
+                self.assertIn(node.func.attr, METHODS | own, path)
+
+    def test_no_two_functions_where_one_yields(self):
+        names = [node.name for _, node in nodes(ast.FunctionDef)]
+        for path, node in nodes(ast.FunctionDef):
+            if any(isinstance(inner, (ast.Yield, ast.YieldFrom)) for inner in ast.walk(node)):
+                self.assertEqual(names.count(node.name), 1, path)
+
+
+class StatementsTest(unittest.TestCase):
+    def test_statements_that_are_not_used(self):
+        kinds = (ast.AsyncFunctionDef, ast.Await, ast.Global, ast.GeneratorExp, ast.JoinedStr, ast.Try, ast.Match)
+        for path, node in nodes(kinds):
+            # f-strings may stand; the others would be under rules that this test does not tell.
+            self.assertIsInstance(node, ast.JoinedStr, path)
+
+    def test_decorators(self):
+        for path, node in nodes((ast.FunctionDef, ast.ClassDef)):
+            for mark in node.decorator_list:
+                self.assertIn(ast.unparse(mark), ("property", "classmethod", "staticmethod"), path)
+
+    def test_is_stands_beside_none_true_false(self):
+        for path, node in nodes(ast.Compare):
+            if any(isinstance(sign, (ast.Is, ast.IsNot)) for sign in node.ops):
+                self.assertIn(ast.unparse(node.comparators[0]), ("None", "True", "False"), path)
+
+    def test_numbers(self):
+        for path, node in nodes(ast.Constant):
+            self.assertNotIsInstance(node.value, (float, complex), path)
+        for path, node in nodes(ast.BinOp):
+            self.assertNotIsInstance(node.op, ast.Div, path)
+
+    def test_sets_stand_where_they_may(self):
+        for path, tree in TREES.items():
+            for node in ast.walk(tree):
+                inner = list(ast.iter_child_nodes(node))
+                for child in inner:
+                    if isinstance(child, ast.Call) and isinstance(child.func, ast.Name) and child.func.id == "set":
+                        around = re.match(r"(sorted|len)\(set\(", ast.unparse(node)) is not None
+                        self.assertTrue(around or isinstance(node, (ast.Compare, ast.Assign)), (path, ast.unparse(node)))
+
+
+if __name__ == "__main__":
+    unittest.main()

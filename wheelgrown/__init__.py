@@ -1,0 +1,1 @@
+"""Webs that no two places part, each grown from a wheel."""

@@ -1,0 +1,1 @@
+"""Words, webs and wheels, on which all else rests."""
