@@ -7,11 +7,25 @@ import unittest
 CONSTANTS = {
     "wheelgrown.base.words": {"MAX_LETTERS": 8, "MAX_FIGURES": 60},
     "wheelgrown.base.webs": {"MAX_PLACES": 16, "MAX_TIES": 60},
+    "wheelgrown.count.webs": {"MAX_NAMED": 6, "MAX_ALIKE": 7},
 }
 FUNCTIONS = {
     "wheelgrown.base.words": (
         "is_integer(value)", "is_count(value)", "is_name(value)", "are_names(value)", "is_naming(names, value)"),
     "wheelgrown.base.webs": ("full_web(places)", "ring_web(ring)"),
+    "wheelgrown.base.wheels": (
+        "plain_ring(ring)", "is_plain(value)", "is_ring(web, value)", "is_bare(web, ring)", "each_ring(web, size)",
+        "count_rings(web, size)", "is_wheel(value)", "wheel_web(wheel)", "wheels_of(web)", "is_wheel_web(web)"),
+    "wheelgrown.part.partings": (
+        "is_parting(web, value)", "all_partings(web)", "least_parting(web)", "held_level(web)", "is_held(web)",
+        "cut_places(web)", "all_blocks(web)", "block_with(web, a, b)", "block_web(web, block)", "block_doors(web)"),
+    "wheelgrown.part.ways": (
+        "ways_apart(web, a, b)", "count_ways(web, a, b)", "is_ways(web, a, b, value)", "is_most_ways(web, a, b, value)",
+        "least_gate(web, a, b)", "is_gate(web, a, b, value)", "is_least_gate(web, a, b, value)", "three_ways(web, a, b)",
+        "ring_through(web, a, b)", "weakest(web)"),
+    "wheelgrown.count.webs": (
+        "each_held(places)", "count_held(places)", "held_by_ties(places)", "sameness(one, other)",
+        "is_sameness(one, other, value)", "count_samenesses(web)", "plain_web(web)", "held_kinds(places)"),
 }
 METHODS = (
     "neighbours(self, place)", "common(self, a, b)", "is_tied(self, a, b)", "with_tie(self, a, b)", "without_tie(self, a, b)",

@@ -95,6 +95,10 @@ class MakingTest(unittest.TestCase):
         check_error(self, ParseError, Web.from_lines, "tie a b", "place a", "tie a b", "place a", number=2)
         check_error(self, ParseError, Web.from_lines, "tie a b", "place a", "place a", number=2)
 
+    def test_places_with_the_names_of_words(self):
+        self.assertEqual(Web.from_lines("tie tie a", "tie place tie", "place place"),
+                         Web(("a", "place", "tie"), (("a", "tie"), ("place", "tie"))))
+
     def test_lines_of_no_web(self):
         check_error(self, InvalidWeb, Web.from_lines)
         places = tuple(f"place {name}" for name in LETTERS[:17])
@@ -186,6 +190,10 @@ class LookingTest(unittest.TestCase):
                 check_error(self, UnknownName, call, "a", value, word=value)
                 check_error(self, UnknownName, call, value, "zz", word=value)
                 check_error(self, UnknownName, call, value, value, word=value)
+            # The places of this web have no neighbours that could be asked for the other place.
+            for call in (APART.common, APART.is_tied, APART.with_tie, APART.without_tie, APART.drawn_together, APART.is_thin):
+                if value not in APART.places:
+                    check_error(self, UnknownName, call, "a", value, word=value)
 
     def test_holding(self):
         for place in WHEEL.places:

@@ -192,8 +192,8 @@ class Web:
         places = tuple(sorted(set(self._places + other._places)))
         return Web(places, tuple(sorted(set(self._ties + other._ties))))
 
-    def __sub__(self, places):
-        return self.without_places(places)
+    def __sub__(self, other):
+        return self.without_places(other)
 
     def __invert__(self):
         ties = tuple([pair for pair in pairs_of(self._places) if pair not in self._ties])

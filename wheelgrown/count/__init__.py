@@ -1,0 +1,1 @@
+"""Numbers and lists of webs."""

@@ -1,0 +1,1 @@
+"""Partings, blocks, and ways apart."""
