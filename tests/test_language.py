@@ -23,6 +23,7 @@ METHODS = set(
 BARRED = (
     "type typing enum Enum Flag Generic Protocol ABC namedtuple NamedTuple TypedDict register mro elements law global "
     "async await exec eval globals locals vars open input").split()
+CHANGING = set("append clear extend insert pop remove reverse setdefault update add discard popleft appendleft".split())
 TREES = {path: ast.parse(path.read_text(encoding="utf-8")) for path in FILES if path.suffix == ".py"}
 
 
@@ -41,6 +42,54 @@ def bound_names():
     found += [(path, node.arg) for path, node in nodes(ast.arg)]
     found += [(path, node.name) for path, node in nodes((ast.FunctionDef, ast.ClassDef))]
     return found
+
+
+def roots(node):
+    """The names whose values an expression can be, or be a field, an item or a choice of."""
+    if isinstance(node, ast.Name):
+        return {node.id}
+    if isinstance(node, (ast.Attribute, ast.Subscript, ast.Starred)):
+        return roots(node.value)
+    if isinstance(node, ast.IfExp):
+        return roots(node.body) | roots(node.orelse)
+    if isinstance(node, ast.BoolOp):
+        return set().union(*map(roots, node.values))
+    if isinstance(node, ast.Call) and isinstance(node.func, ast.Name) and node.func.id in ("enumerate", "zip", "reversed"):
+        return set().union(*map(roots, node.args))
+    if isinstance(node, ast.Call) and isinstance(node.func, ast.Attribute) and node.func.attr in ("items", "keys", "values"):
+        return roots(node.func.value)
+    return set()
+
+
+def other_names(function, names):
+    """These names, and all that an assignment in the function gives to the same values."""
+    pairs = [(roots(target), roots(node.value)) for node in ast.walk(function) if isinstance(node, ast.Assign)
+             for target in node.targets if isinstance(target, ast.Name)]
+    names = set(names)
+    for _ in pairs:
+        for one, other in pairs:
+            if (one | other) & names:
+                names |= one | other
+    return names
+
+
+def changed_names(node):
+    """The names whose values a statement changes by a method or by an item."""
+    found = set()
+    for inner in ast.walk(node):
+        if isinstance(inner, ast.Call) and isinstance(inner.func, ast.Attribute) and inner.func.attr in CHANGING:
+            found |= roots(inner.func.value)
+        elif isinstance(inner, (ast.Subscript, ast.Attribute)) and not isinstance(inner.ctx, ast.Load):
+            found |= roots(inner)
+        elif isinstance(inner, ast.AugAssign):
+            found |= roots(inner.target)
+    return found
+
+
+def loops_that_change_what_they_walk(tree):
+    return [loop.lineno for function in ast.walk(tree) if isinstance(function, ast.FunctionDef)
+            for loop in ast.walk(function) if isinstance(loop, ast.For)
+            if any(other_names(function, roots(loop.iter)) & changed_names(row) for row in loop.body)]
 
 
 class FilesTest(unittest.TestCase):
@@ -143,6 +192,22 @@ class StatementsTest(unittest.TestCase):
         for path, node in nodes(kinds):
             # f-strings may stand; the others would be under rules that this test does not tell.
             self.assertIsInstance(node, ast.JoinedStr, path)
+
+    def test_no_loop_changes_what_it_walks(self):
+        for path, tree in TREES.items():
+            self.assertEqual(loops_that_change_what_they_walk(tree), [], path)
+
+    def test_the_look_at_loops_sees_other_names(self):
+        rows = ["def f(rows, more):", "    layer = [1]", "    while layer:", "        ahead = []", "        for k in layer:",
+                "            ahead.append(k)", "        layer = ahead"]
+        self.assertEqual(loops_that_change_what_they_walk(ast.parse("\n".join(rows))), [5])
+        self.assertEqual(loops_that_change_what_they_walk(ast.parse("\n".join(rows[:-1]))), [])
+        for head, body, many in (("rows", "rows.pop()", 1), ("rows", "more.pop()", 0), ("list(rows)", "rows.pop()", 0),
+                                 ("enumerate(rows)", "rows[0] = 1", 1), ("rows.items()", "del rows[0]", 1),
+                                 ("rows if more else []", "rows.append(1)", 1), ("rows or more", "more += [1]", 1),
+                                 ("more.rows", "more.rows.append(1)", 1)):
+            text = f"def f(rows, more):\n    for k in {head}:\n        {body}"
+            self.assertEqual(len(loops_that_change_what_they_walk(ast.parse(text))), many, text)
 
     def test_decorators(self):
         for path, node in nodes((ast.FunctionDef, ast.ClassDef)):

@@ -19,6 +19,24 @@ LARGE = tuple(random_webs(random.Random(7), 8, 12, 16))
 TWO = (ways_apart, count_ways, least_gate, three_ways, ring_through)
 THREE = (is_ways, is_most_ways, is_gate, is_least_gate)
 
+# What the functions answer for two places: ways apart, a least gate, and a ring through both.
+ANSWERS = (
+    (PRISM, "a", "c", (("a", "b", "c"), ("a", "c"), ("a", "d", "f", "c")), ("b", "d"), ("a", "b", "c")),
+    (PRISM, "c", "a", (("c", "a"), ("c", "b", "a"), ("c", "f", "d", "a")), ("b", "f"), ("a", "b", "c")),
+    (PRISM, "b", "e", (("b", "a", "d", "e"), ("b", "c", "f", "e"), ("b", "e")), ("a", "c"), ("a", "b", "c", "f", "e", "d")),
+    (PRISM, "a", "f", (("a", "b", "e", "f"), ("a", "c", "f"), ("a", "d", "f")), ("b", "c", "d"), ("a", "b", "e", "f", "c")),
+    (WHEEL, "a", "c", (("a", "b", "c"), ("a", "d", "c"), ("a", "h", "c")), ("b", "d", "h"), ("a", "b", "c", "d")),
+    (WHEEL, "d", "b", (("d", "a", "b"), ("d", "c", "b"), ("d", "h", "b")), ("a", "c", "h"), ("a", "b", "c", "d")),
+    (WHEEL, "h", "a", (("h", "a"), ("h", "b", "a"), ("h", "d", "a")), ("b", "d"), ("a", "b", "h")),
+    (WHEEL, "a", "b", (("a", "b"), ("a", "d", "c", "b"), ("a", "h", "b")), ("d", "h"), ("a", "b", "c", "d")),
+    (GLUED, "a", "c", (("a", "b", "c"), ("a", "c"), ("a", "d", "c")), ("b", "d"), ("a", "b", "c")),
+    (GLUED, "b", "e", (("b", "a", "e"), ("b", "e"), ("b", "f", "e")), ("a", "f"), ("a", "b", "e")),
+    (GLUED, "a", "f", (("a", "b", "f"), ("a", "e", "f"), ("a", "f")), ("b", "e"), ("a", "b", "f", "e")),
+    (BOW, "a", "c", (("a", "b", "c"), ("a", "c")), ("b",), ("a", "b", "c")),
+    (BOW, "b", "e", (("b", "c", "e"),), ("c",), None),
+    (BOW, "a", "f", (("a", "c", "e", "f"),), ("c",), None),
+)
+
 
 def pairs_of(web):
     return list(permutations(web.places, 2))
@@ -33,6 +51,13 @@ class ExamplesTest(unittest.TestCase):
         self.assertIs(is_most_ways(PRISM, "a", "e", (("a", "b", "e"), ("a", "c", "f", "e"), ("a", "d", "e"))), True)
         self.assertEqual([count_ways(GLUED, "a", "b"), least_gate(GLUED, "c", "f"), least_gate(GLUED, "b", "a")],
                          [5, ("a", "b"), ("c", "d", "e", "f")])
+
+    def test_answers_value_by_value(self):
+        for web, a, b, ways, gate, ring in ANSWERS:
+            self.assertEqual((ways_apart(web, a, b), least_gate(web, a, b), ring_through(web, a, b)), (ways, gate, ring))
+            self.assertEqual(count_ways(web, a, b), len(ways))
+            self.assertEqual(three_ways(web, a, b), ways[:3] if len(ways) >= 3 else None)
+        self.assertEqual([weakest(web) for web in (PRISM, WHEEL, GLUED, BOW)], [("a", "b"), ("a", "b"), ("c", "e"), ("a", "d")])
 
     def test_judging_and_rings(self):
         self.assertEqual(

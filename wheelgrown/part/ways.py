@@ -38,18 +38,23 @@ def _first_room(near):
     return room
 
 
+def _next_layer(room, before, layer):
+    """The spots that can be had from a layer and from none before it; `before` is told the ones before them."""
+    ahead = []
+    for spot in layer:
+        for other in bits_of(room[spot]):
+            if other not in before:
+                before[other] = spot
+                ahead.append(other)
+    return ahead
+
+
 def _trails(room, source, sink):
     """The dict from all spots that can be had from the source to those before them, or until the sink is had."""
     before = {source: None}
     layer = [source]
     while layer and sink not in before:
-        ahead = []
-        for spot in layer:
-            for other in bits_of(room[spot]):
-                if other not in before:
-                    before[other] = spot
-                    ahead.append(other)
-        layer = ahead
+        layer = _next_layer(room, before, layer)
     return before
 
 
