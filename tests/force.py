@@ -110,3 +110,67 @@ def random_webs(source, many, least, most):
         ties = source.sample(pairs, min(60, source.randint(0, len(pairs))))
         webs.append(Web(places, tuple(sorted(ties))))
     return webs
+
+
+def tied(a, b):
+    return tuple(sorted((a, b)))
+
+
+def behind(web, step):
+    """The places and the ties behind a step of the right form, None if it cannot be done."""
+    places, ties = set(web.places), set(web.ties)
+    if len(ties) == 60:
+        return None
+    if step[0] == "tie":
+        done = set(step[1:]) <= places and step[1] < step[2] and step[1:] not in ties
+        return (sorted(places), sorted(ties | {step[1:]})) if done else None
+    _, place, new, moved = step
+    near = {x for x in places if tied(x, place) in ties}
+    if place not in places or new in places or len(places) == 16 or not set(moved) <= near:
+        return None
+    if len(moved) < 2 or len(near - set(moved)) < 2:
+        return None
+    ties = ties - {tied(place, x) for x in moved} | {tied(new, x) for x in moved} | {tied(place, new)}
+    return sorted(places | {new}), sorted(ties)
+
+
+def ahead(web, step):
+    """The web ahead of a step of the right form, None if the step does not lead to the web."""
+    if step[0] == "tie":
+        found = Web(web.places, tuple(tie for tie in web.ties if tie != step[1:]))
+    else:
+        _, place, new, moved = step
+        if new not in web.places or not {place, *moved} <= set(web.places) - {new}:
+            return None
+        ties = {tie for tie in web.ties if new not in tie} | {tied(place, x) for x in moved}
+        found = Web(tuple(x for x in web.places if x != new), tuple(sorted(ties)))
+    return found if behind(found, step) == (list(web.places), list(web.ties)) else None
+
+
+def forms_of_steps(names, news):
+    """All values that have the form of a step with such names, ascending."""
+    splits = [("split", place, new, moved) for place in names for new in news if new != place
+              for size in range(2, len(names)) for moved in combinations(sorted(set(names) - {place, new}), size)]
+    return sorted(splits + [("tie", a, b) for a, b in combinations(sorted(names), 2)])
+
+
+def is_walk_to(web, wheel, steps):
+    """Whether the steps lead from a wheel of the right form to the web."""
+    hub, ring = wheel
+    ties = {tied(hub, x) for x in ring} | {tied(*pair) for pair in zip(ring, ring[1:] + ring[:1])}
+    here = Web(tuple(sorted((hub,) + ring)), tuple(sorted(ties)))
+    for step in steps:
+        told = behind(here, step)
+        if told is None:
+            return False
+        here = Web(tuple(told[0]), tuple(told[1]))
+    return here == web
+
+
+def held_web_of(source, size, many):
+    """A held web with so many places and ties, drawn from a random source with a told seed."""
+    while True:
+        pairs = source.sample(list(combinations("abcdefghijklmnop"[:size], 2)), many)
+        web = Web(tuple("abcdefghijklmnop"[:size]), tuple(sorted(pairs)))
+        if all(len(web.neighbours(place)) > 2 for place in web.places) and is_held_by_force(web):
+            return web

@@ -60,3 +60,30 @@ def check_error(case, kind, call, *passed, **kept):
         case.assertEqual(getattr(error, name), value)
         case.assertIs(getattr(error, name).__class__, value.__class__)
     return error
+
+
+# What a thing within a right value is bent to.
+BENT = (None, True, False, 0, 1, 2, "", "a", "z", "A", "a b", (), ("a",), ("a", "b"), [], ["a"], {}, {"a": "b"}, WHEEL)
+
+
+def bent(value):
+    """The values that come of bending one thing within a value, or of leaving it out, doubling or moving it."""
+    yield from BENT
+    if isinstance(value, tuple):
+        yield list(value)
+        yield from (value[:-1], value[1:], value[::-1], value + value[-1:], value[:1] + value, value + (None,))
+        for index, item in enumerate(value):
+            for other in bent(item):
+                yield value[:index] + (other,) + value[index + 1:]
+    elif isinstance(value, dict):
+        yield list(value)
+        yield tuple(value.items())
+        yield {**value, "zz": "a"}
+        for key, item in value.items():
+            rest = {other: value[other] for other in value if other != key}
+            yield rest
+            yield {**rest, "zz": item}
+            for other in bent(item):
+                yield {**value, key: other}
+    elif isinstance(value, int):
+        yield from (value + 1, value - 1, bool(value), str(value))

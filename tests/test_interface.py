@@ -23,16 +23,31 @@ FUNCTIONS = {
         "ways_apart(web, a, b)", "count_ways(web, a, b)", "is_ways(web, a, b, value)", "is_most_ways(web, a, b, value)",
         "least_gate(web, a, b)", "is_gate(web, a, b, value)", "is_least_gate(web, a, b, value)", "three_ways(web, a, b)",
         "ring_through(web, a, b)", "weakest(web)"),
+    "wheelgrown.grow.steps": (
+        "is_step(web, value)", "web_behind(web, step)", "is_last_step(web, value)", "web_ahead(web, step)", "tie_steps(web)",
+        "split_steps(web, new)", "last_steps(web)", "renamed_step(step, names)"),
+    "wheelgrown.grow.growths": ("is_growth(web, value)",),
+    "wheelgrown.grow.papers": ("paper(web)", "is_paper(web, value)", "growth_of(web)", "is_grown(web)"),
     "wheelgrown.count.webs": (
         "each_held(places)", "count_held(places)", "held_by_ties(places)", "sameness(one, other)",
         "is_sameness(one, other, value)", "count_samenesses(web)", "plain_web(web)", "held_kinds(places)"),
 }
-METHODS = (
-    "neighbours(self, place)", "common(self, a, b)", "is_tied(self, a, b)", "with_tie(self, a, b)", "without_tie(self, a, b)",
-    "with_place(self, name)", "without_places(self, places)", "drawn_together(self, a, b)", "is_thin(self, a, b)",
-    "renamed(self, names)", "__init__(self, places, ties)",
-)
-OPERATORS = ("__add__", "__sub__", "__invert__", "__contains__", "__len__", "__iter__", "__eq__", "__str__")
+# For each class its methods, its class methods, its properties, and what else it must define itself.
+CLASSES = {
+    ("wheelgrown.base.webs", "Web"): (
+        ("__init__(self, places, ties)", "neighbours(self, place)", "common(self, a, b)", "is_tied(self, a, b)", "with_tie(self, a, b)",
+         "without_tie(self, a, b)", "with_place(self, name)", "without_places(self, places)", "drawn_together(self, a, b)",
+         "is_thin(self, a, b)", "renamed(self, names)"),
+        ("from_lines(cls, *lines)", "of_ties(cls, *ties)"),
+        ("places", "ties", "lines", "lots", "hangs"),
+        ("__add__", "__sub__", "__invert__", "__contains__", "__len__", "__iter__", "__eq__", "__str__")),
+    ("wheelgrown.grow.growths", "Growth"): (
+        ("__init__(self, wheel, steps)", "web_at(self, count)", "__call__(self, count)", "cut(self, count)", "grown(self, *steps)",
+         "renamed(self, names)", "swapped(self, index)"),
+        (),
+        ("wheel", "steps", "web", "spokes"),
+        ("__contains__", "__len__", "__iter__", "__eq__", "__str__")),
+}
 
 
 class InterfaceTest(unittest.TestCase):
@@ -48,16 +63,20 @@ class InterfaceTest(unittest.TestCase):
                 self.assertEqual(function.__module__, module)
                 self.assertEqual(function.__name__ + str(inspect.signature(function)), head)
 
-    def test_web(self):
-        own = vars(importlib.import_module("wheelgrown.base.webs").Web)
-        for head in METHODS:
-            self.assertEqual(head.split("(")[0] + str(inspect.signature(own[head.split("(")[0]])), head)
-        for name in OPERATORS:
-            self.assertTrue(callable(own[name]), name)
-        for name in ("places", "ties", "lines", "lots", "hangs"):
-            self.assertIsInstance(own[name], property)
-        self.assertEqual(str(inspect.signature(own["from_lines"].__func__)), "(cls, *lines)")
-        self.assertEqual(str(inspect.signature(own["of_ties"].__func__)), "(cls, *ties)")
+    def test_classes(self):
+        for (module, name), (methods, made, properties, others) in CLASSES.items():
+            kind = getattr(importlib.import_module(module), name)
+            own = vars(kind)
+            self.assertEqual((kind.__module__, kind.__name__), (module, name))
+            for head in methods:
+                self.assertEqual(head.split("(")[0] + str(inspect.signature(own[head.split("(")[0]])), head)
+            for head in made:
+                self.assertIsInstance(own[head.split("(")[0]], classmethod)
+                self.assertEqual(head.split("(")[0] + str(inspect.signature(own[head.split("(")[0]].__func__)), head)
+            for word in properties:
+                self.assertIsInstance(own[word], property, word)
+            for word in others:
+                self.assertTrue(callable(own[word]), word)
 
 
 if __name__ == "__main__":

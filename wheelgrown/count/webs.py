@@ -1,5 +1,6 @@
 """Held webs with told names, samenesses, and kinds of webs."""
 
+from wheelgrown.base.choices import each_choice
 from wheelgrown.base.webs import Web, check_web, pairs_of, renamed_ties
 from wheelgrown.base.words import are_ascending_names, is_naming
 from wheelgrown.errors import InvalidNumber, InvalidPlace, TooMany
@@ -8,19 +9,6 @@ from wheelgrown.part.partings import is_held
 MIN_NAMED = 4
 MAX_NAMED = 6
 MAX_ALIKE = 7
-
-
-def _each_choice(many):
-    """All ascending tuples of at least one of the first so many numbers, ascending."""
-    chosen = [0]
-    while chosen:
-        yield tuple(chosen)
-        if chosen[-1] < many - 1:
-            chosen.append(chosen[-1] + 1)
-        else:
-            chosen.pop()
-            if chosen:
-                chosen[-1] += 1
 
 
 def _can_be_held(places, ties):
@@ -36,7 +24,7 @@ def each_held(places):
     if not MIN_NAMED <= len(places) <= MAX_NAMED:
         raise InvalidNumber(len(places))
     pairs = pairs_of(places)
-    for choice in _each_choice(len(pairs)):
+    for choice in each_choice(len(pairs)):
         ties = tuple([pairs[index] for index in choice])
         if _can_be_held(places, ties):
             web = Web(places, ties)

@@ -1,0 +1,1 @@
+"""Steps, growths, papers, and ties that can be spared."""
