@@ -28,6 +28,14 @@ FUNCTIONS = {
         "split_steps(web, new)", "last_steps(web)", "renamed_step(step, names)"),
     "wheelgrown.grow.growths": ("is_growth(web, value)",),
     "wheelgrown.grow.papers": ("paper(web)", "is_paper(web, value)", "growth_of(web)", "is_grown(web)"),
+    "wheelgrown.grow.spare": (
+        "struck_ties(web)", "joined_ties(web)", "spare_steps(web)", "is_spare_step(web, value)", "is_lean(web)", "lean_web(web)",
+        "is_lean_within(web, value)"),
+    "wheelgrown.tree.parts": ("is_whole_block(web)", "is_tree_of(web, value)"),
+    "wheelgrown.tree.whole": (
+        "whole_of(web)", "is_whole(web, value)", "joined_whole(value)", "count_kinds(web)", "held_parts(web)", "held_web(web, places)",
+        "part_growths(web)", "is_told(web, value)", "is_loose(web)", "least_changes(web)"),
+    "wheelgrown.draw.drawings": ("drawing_of(web)", "is_drawable(web)"),
     "wheelgrown.count.webs": (
         "each_held(places)", "count_held(places)", "held_by_ties(places)", "sameness(one, other)",
         "is_sameness(one, other, value)", "count_samenesses(web)", "plain_web(web)", "held_kinds(places)"),
@@ -47,6 +55,17 @@ CLASSES = {
         (),
         ("wheel", "steps", "web", "spokes"),
         ("__contains__", "__len__", "__iter__", "__eq__", "__str__")),
+    ("wheelgrown.tree.parts", "PartTree"): (
+        ("__init__(self, parts, doors)", "__getitem__(self, index)", "sides(self, index)", "part_web(self, index)", "beside(self, index)",
+         "part_with(self, a, b)", "parts_at(self, place)", "renamed(self, names)"),
+        ("of_web(cls, web)",),
+        ("parts", "doors", "joined", "parting_pairs"),
+        ("__contains__", "__len__", "__iter__", "__eq__", "__str__")),
+    ("wheelgrown.draw.drawings", "Drawing"): (
+        ("__init__(self, web, turns)", "rim_along(self, a, b)", "is_like(self, value)"),
+        (),
+        ("web", "turns", "rims"),
+        ("__invert__", "__contains__", "__len__", "__iter__", "__eq__", "__str__")),
 }
 
 

@@ -92,6 +92,18 @@ def loops_that_change_what_they_walk(tree):
             if any(other_names(function, roots(loop.iter)) & changed_names(row) for row in loop.body)]
 
 
+PARENTS = {child: node for tree in TREES.values() for node in ast.walk(tree) for child in ast.iter_child_nodes(node)}
+TAKERS = ("list", "tuple", "dict", "sorted", "sum", "any", "all", "enumerate", "zip", "min", "max")
+
+
+def is_iterated_at_once(node, takers):
+    """Whether a loop or a comprehension goes over what a call returns, or one of some builtins takes it."""
+    around = PARENTS[node]
+    if isinstance(around, (ast.For, ast.comprehension)):
+        return around.iter is node
+    return isinstance(around, ast.Call) and isinstance(around.func, ast.Name) and around.func.id in takers and node is around.args[0]
+
+
 class FilesTest(unittest.TestCase):
     def test_files_and_folders(self):
         for path in FILES:
@@ -208,6 +220,35 @@ class StatementsTest(unittest.TestCase):
                                  ("more.rows", "more.rows.append(1)", 1)):
             text = f"def f(rows, more):\n    for k in {head}:\n        {body}"
             self.assertEqual(len(loops_that_change_what_they_walk(ast.parse(text))), many, text)
+
+    def test_what_is_iterated_at_once(self):
+        for path, node in nodes(ast.Call):
+            name = node.func.id if isinstance(node.func, ast.Name) else getattr(node.func, "attr", "")
+            plain = isinstance(node.func, ast.Name) and name in ("range", "zip", "enumerate", "reversed")
+            if plain or isinstance(node.func, ast.Attribute) and name in ("items", "keys", "values"):
+                self.assertTrue(is_iterated_at_once(node, TAKERS), (path, ast.unparse(node)))
+            # A class of the package has __getitem__.
+            if name == "reversed":
+                self.assertRegex(ast.unparse(node.args[0]), r"^(list|tuple|sorted|range)\(", path)
+
+    def test_generators_are_iterated_at_once(self):
+        made = [node.name for _, node in nodes(ast.FunctionDef) if any(isinstance(inner, ast.Yield) for inner in ast.walk(node))]
+        self.assertTrue(made)
+        for path, node in nodes(ast.Name):
+            if node.id in made:
+                call = PARENTS[node]
+                self.assertTrue(isinstance(call, ast.Call) and call.func is node, (path, node.id))
+                self.assertTrue(is_iterated_at_once(call, ("list", "tuple")), (path, ast.unparse(call)))
+                for passed in call.args:
+                    inner = [part for part in ast.walk(passed) if isinstance(part, ast.Call)]
+                    self.assertTrue(all(ast.unparse(part.func) == "len" for part in inner), (path, ast.unparse(call)))
+
+    def test_stars_stand_before_plain_names(self):
+        for path, node in nodes(ast.Call):
+            self.assertTrue(all(keyword.arg for keyword in node.keywords), path)
+            for passed in node.args:
+                if isinstance(passed, ast.Starred):
+                    self.assertIsInstance(passed.value, ast.Name, (path, ast.unparse(node)))
 
     def test_decorators(self):
         for path, node in nodes((ast.FunctionDef, ast.ClassDef)):

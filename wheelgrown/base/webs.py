@@ -44,7 +44,7 @@ def _are_places(value):
     return are_ascending_names(value) and 1 <= len(value) <= MAX_PLACES
 
 
-def _are_ties(places, value):
+def are_ties(places, value):
     """Whether the value is an ascending tuple of ties between places, as many as a web can have."""
     if not isinstance(value, tuple) or len(value) > MAX_TIES:
         return False
@@ -57,7 +57,7 @@ class Web:
     """Places and ties between them. A web never changes."""
 
     def __init__(self, places, ties):
-        if not _are_places(places) or not _are_ties(places, ties):
+        if not _are_places(places) or not are_ties(places, ties):
             raise InvalidWeb("no web has these places and ties")
         self._places = places
         self._ties = ties

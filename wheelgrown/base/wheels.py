@@ -69,7 +69,7 @@ def _each_ring_from(near, start, size):
             if route[1] < route[-1]:
                 yield route
         else:
-            for index in reversed(bits_of(near[route[-1]] & free)):
+            for index in sorted(bits_of(near[route[-1]] & free), reverse=True):
                 left = free & ~(1 << index)
                 if _can_close(near, index, left, start, size - len(route) - 1, known):
                     routes.append(((*route, index), left))
@@ -123,7 +123,7 @@ def wheel_web(wheel):
     return ring_web(ring) + Web.of_ties(*ties)
 
 
-def _whole_ring(web):
+def whole_ring(web):
     """The plain ring that is all of the web, None if the web is more or less than a ring."""
     if not web.hangs or not all([len(web.neighbours(place)) == 2 for place in web.places]):
         return None
@@ -139,7 +139,7 @@ def _wheel_at(web, hub):
     """The wheel with this hub whose web it is, None if there is none."""
     if len(web.places) <= MIN_RING or len(web.neighbours(hub)) < len(web.places) - 1:
         return None
-    ring = _whole_ring(web.without_places((hub,)))
+    ring = whole_ring(web.without_places((hub,)))
     return None if ring is None else (hub, ring)
 
 

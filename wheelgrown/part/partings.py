@@ -98,11 +98,16 @@ def block_with(web, a, b):
     return names_of(web.places, _block_mask(near_masks(web.places, web.ties), mask_of(web.places, (a, b))))
 
 
+def inner_web(web, places):
+    """The web of some of the places, told by an ascending tuple, and of all ties between them."""
+    return Web(places, tuple([(a, b) for a, b in web.ties if a in places and b in places]))
+
+
 def block_web(web, block):
     """The web of the places of a block and of all ties between them."""
     if block not in all_blocks(web):
         raise InvalidPart("this is no block of the web")
-    return Web(block, tuple([(a, b) for a, b in web.ties if a in block and b in block]))
+    return inner_web(web, block)
 
 
 def block_doors(web):

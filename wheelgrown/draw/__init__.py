@@ -1,0 +1,1 @@
+"""Drawings of webs without crossings."""

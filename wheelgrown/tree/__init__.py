@@ -1,0 +1,1 @@
+"""Parts of webs: rings, bundles and held parts, and how they are joined."""
