@@ -221,6 +221,14 @@ class ClassTest(unittest.TestCase):
                            (PAIR, {"a": ("b",)}), (PAIR, {"a": ("b", "b"), "b": ("a",)}), (PAIR, {"a": ["b"], "b": ["a"]}), (PAIR, {1: ("b",), "b": ("a",)})):
             check_error(self, InvalidOperation, Drawing, web, turns)
 
+    def test_webs_that_do_not_hang_together_but_have_as_many_rims(self):
+        # Each lot drawn alone counts two more places and rims than ties, but turns of no drawing can count less.
+        lot = next(turns for turns in all_turns(FIVE) if len(FIVE) + len(rims_by_force(turns)) == len(FIVE.ties))
+        web = FIVE + Web.of_ties(("x", "y"))
+        turns = {**lot, "x": ("y",), "y": ("x",)}
+        self.assertEqual(len(web) + len(rims_by_force(turns)), len(web.ties) + 2)
+        check_error(self, InvalidOperation, Drawing, web, turns)
+
     def is_right(self, turns):
         if not isinstance(turns, dict) or set(turns) != set(WHEEL.places):
             return False

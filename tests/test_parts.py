@@ -219,12 +219,39 @@ class RulesTest(unittest.TestCase):
         check_error(self, InvalidPart, PartTree, parts, doors)
 
     def test_two_ways_between_parts(self):
-        parts = (("held", ("a", "b", "c", "d"), FOUR.without_places(()).ties[1:-1]), ("held", ("a", "b", "c", "d", "e"), FIVE.ties))
-        self.assertIn(4, rules_broken(parts, ((AB, 0, 1), (("c", "d"), 0, 1))))
-        check_error(self, InvalidPart, PartTree, parts, ((AB, 0, 1), (("c", "d"), 0, 1)))
+        # Each part alone is right, and so is the number of ways by each door, but there are two of them.
+        four = ("held", ("a", "b", "c", "d"), FOUR.ties[1:-1])
+        seven = ("held", LETTERS[:7], tuple((a, b) for a in "abcd" for b in "efg"))
+        doors = ((AB, 0, 1), (("c", "d"), 0, 1))
+        self.assertEqual(rules_broken((four, seven), doors), [4, 7])
+        check_error(self, InvalidPart, PartTree, (four, seven), doors)
+        away = ("held", ("h", "i", "j", "k"), full_web(("h", "i", "j", "k")).ties)
+        self.assertEqual(rules_broken((four, seven, away), doors), [4, 7])
+        check_error(self, InvalidPart, PartTree, (four, seven, away), doors)
         cut = PartTree.of_web(LADDER)
         check_error(self, InvalidPart, PartTree, cut.parts, cut.doors[1:])
         check_error(self, InvalidPart, PartTree, cut.parts[1:], ())
+
+    def test_doors_between_parts_without_their_places(self):
+        parts = (("held", ("a", "b", "c", "d"), FOUR.ties[:-1]), ("held", ("a", "b", "e", "f"), full_web(("a", "b", "e", "f")).ties[1:]),
+                 ("bundle", ("c", "d"), (("c", "d"),)))
+        doors = ((AB, 1, 2), (("c", "d"), 0, 2))
+        self.assertFalse(have_form(parts, doors))
+        check_error(self, InvalidPart, PartTree, parts, doors)
+        first = (("bundle", AB, (AB,)), ("held", ("a", "b", "c", "d"), FOUR.ties[1:]),
+                 ("held", ("c", "d", "e", "f"), full_web(("c", "d", "e", "f")).ties[1:]))
+        doors_of_first = ((AB, 0, 1), (("c", "d"), 0, 2))
+        self.assertFalse(have_form(first, doors_of_first))
+        check_error(self, InvalidPart, PartTree, first, doors_of_first)
+        for door in ((AB, 0, 0), (AB, 1, 1), (AB, 1, 0), (AB, 0, 3), (AB, -1, 0), (("c", "d"), 0, 1)):
+            check_error(self, InvalidPart, PartTree, parts, (door, doors[1]))
+            check_error(self, InvalidPart, PartTree, parts, (door,))
+
+    def test_more_sides_than_ties_of_a_web(self):
+        ties = tuple(combinations(LETTERS[:12], 2))
+        parts = (("held", LETTERS[:12], ties[:60]), ("bundle", ("k", "l"), ()))
+        self.assertEqual(rules_broken(parts, ((("k", "l"), 0, 1),)), [2, 3])
+        check_error(self, InvalidPart, PartTree, parts, ((("k", "l"), 0, 1),))
 
     def test_two_bundles(self):
         parts = tuple(PartTree.of_web(BOOK).parts)
@@ -335,8 +362,9 @@ class TreeTest(unittest.TestCase):
             self.assertIs(value in KITE, False)
 
     def test_equal_trees(self):
-        for tree in TREES:
-            self.assertEqual([tree == other for other in TREES], [tree is other for other in TREES])
+        trees = TREES + tuple(PartTree.of_web(web) for web in (FOUR, WHEEL, ring_web(("a", "b", "c")), ring_web(("a", "b", "c", "d"))))
+        for tree in trees:
+            self.assertEqual([tree == other for other in trees], [tree is other for other in trees])
             for value in NOT_WEBS + (tree.parts, (tree.parts, tree.doors), tree.joined):
                 self.assertIs(tree == value, False)
                 self.assertIs(tree != value, True)

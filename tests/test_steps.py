@@ -185,7 +185,7 @@ class GeneratorsTest(unittest.TestCase):
 
 class WrongTest(unittest.TestCase):
     def test_values_that_are_no_steps(self):
-        for value in NO_STEPS + (("tie", "a", "z"), ("tie", "x", "z"), ("split", "z", "k", ("a", "b")), ("split", "h", "k", ("a", "z"))):
+        for value in NO_STEPS + (("tie", "a", "z"), ("tie", "aa", "h"), ("tie", "x", "z"), ("split", "z", "k", ("a", "b")), ("split", "h", "k", ("a", "z"))):
             self.assertIs(is_step(WHEEL, value), False)
             self.assertIs(is_last_step(WHEEL, value), False)
             check_error(self, InvalidStep, web_behind, WHEEL, value)
@@ -252,7 +252,9 @@ class RenamedTest(unittest.TestCase):
         )
         for names in wrong + tuple(value for value in NOT_WEBS if value != {"a": "b", "b": "a"}):
             check_error(self, InvalidOperation, renamed_step, ("tie", "a", "b"), names)
-        check_error(self, InvalidOperation, renamed_step, ("split", "a", "b", ("c", "d")), {"a": "b", "b": "a", "c": "d"})
+        for missing in ("a", "b", "c", "d"):
+            names = {name: name for name in ("a", "b", "c", "d", "e") if name != missing}
+            check_error(self, InvalidOperation, renamed_step, ("split", "a", "b", ("c", "d")), names)
         self.assertEqual(renamed_step(("tie", "a", "b"), {"a": "b", "b": "a"}), ("tie", "a", "b"))
 
 
