@@ -8,6 +8,7 @@ CONSTANTS = {
     "wheelgrown.base.words": {"MAX_LETTERS": 8, "MAX_FIGURES": 60},
     "wheelgrown.base.webs": {"MAX_PLACES": 16, "MAX_TIES": 60},
     "wheelgrown.count.webs": {"MAX_NAMED": 6, "MAX_ALIKE": 7},
+    "wheelgrown.count.growths": {"MAX_WEBS": 500},
 }
 FUNCTIONS = {
     "wheelgrown.base.words": (
@@ -36,6 +37,13 @@ FUNCTIONS = {
         "whole_of(web)", "is_whole(web, value)", "joined_whole(value)", "count_kinds(web)", "held_parts(web)", "held_web(web, places)",
         "part_growths(web)", "is_told(web, value)", "is_loose(web)", "least_changes(web)"),
     "wheelgrown.draw.drawings": ("drawing_of(web)", "is_drawable(web)"),
+    "wheelgrown.draw.bars": ("bar_of(web)", "is_bar(web, value)", "side_rings(web)"),
+    "wheelgrown.draw.carried": (
+        "drawn_wheel(wheel)", "carried(drawing, step)", "carried_back(drawing, step)", "drawings_along(growth)", "lost_at(growth)",
+        "dual_web(drawing)", "dual_drawing(drawing)"),
+    "wheelgrown.count.growths": (
+        "count_growths(web)", "each_growth(web)", "growth_at(web, number)", "number_of(web, value)", "least_spokes(web)",
+        "most_spokes(web)"),
     "wheelgrown.count.webs": (
         "each_held(places)", "count_held(places)", "held_by_ties(places)", "sameness(one, other)",
         "is_sameness(one, other, value)", "count_samenesses(web)", "plain_web(web)", "held_kinds(places)"),

@@ -36,15 +36,20 @@ def mask_of(places, chosen):
     return mask
 
 
+def touched_by(near, mask):
+    """The mask of all neighbours of the places in a mask."""
+    touched = 0
+    for index in bits_of(mask):
+        touched = touched | near[index]
+    return touched
+
+
 def reach(near, within, start):
     """The mask of all to which routes within a mask lead from its places in `start`."""
     found = start & within
     fresh = found
     while fresh:
-        touched = 0
-        for index in bits_of(fresh):
-            touched = touched | near[index]
-        fresh = touched & within & ~found
+        fresh = touched_by(near, fresh) & within & ~found
         found = found | fresh
     return found
 

@@ -1,6 +1,6 @@
 """Ways back from held webs: which ties can be struck or drawn together, so that the web is held behind it."""
 
-from wheelgrown.base.masks import bits_of, falls_apart, full_mask, least_bit, near_masks
+from wheelgrown.base.masks import bits_of, falls_apart, full_mask, least_bit, near_masks, touched_by
 from wheelgrown.base.webs import Web
 from wheelgrown.grow.steps import last_split
 from wheelgrown.part.partings import MAX_PARTING, SMALL
@@ -11,10 +11,7 @@ def _between(near, within, one, other):
     layers = [1 << one]
     left = within & ~layers[0]
     while not (layers[-1] >> other) & 1:
-        touched = 0
-        for index in bits_of(layers[-1]):
-            touched = touched | near[index]
-        fresh = touched & left
+        fresh = touched_by(near, layers[-1]) & left
         if not fresh:
             return None
         layers.append(fresh)
