@@ -9,6 +9,8 @@ CONSTANTS = {
     "wheelgrown.base.webs": {"MAX_PLACES": 16, "MAX_TIES": 60},
     "wheelgrown.count.webs": {"MAX_NAMED": 6, "MAX_ALIKE": 7},
     "wheelgrown.count.growths": {"MAX_WEBS": 500},
+    "wheelgrown.within.models": {"MAX_SOUGHT": 8},
+    "wheelgrown.use.bench": {"MAX_PLEDGES": 10},
 }
 FUNCTIONS = {
     "wheelgrown.base.words": (
@@ -47,6 +49,12 @@ FUNCTIONS = {
     "wheelgrown.count.webs": (
         "each_held(places)", "count_held(places)", "held_by_ties(places)", "sameness(one, other)",
         "is_sameness(one, other, value)", "count_samenesses(web)", "plain_web(web)", "held_kinds(places)"),
+    "wheelgrown.within.models": (
+        "is_model(web, small, value)", "model_in(web, small)", "model_along(growth)", "joined_models(web, middle, small, outer, inner)",
+        "four_of(web)", "is_four(web, value)", "peeling_of(web)", "is_peeling(web, value)"),
+    "wheelgrown.text.texts": (
+        "write_web(web)", "read_web(text)", "write_step(step)", "read_step(text)", "write_growth(growth)", "read_growth(text)",
+        "write_paper(paper)", "read_paper(text)"),
 }
 # For each class its methods, its class methods, its properties, and what else it must define itself.
 CLASSES = {
@@ -74,6 +82,18 @@ CLASSES = {
         (),
         ("web", "turns", "rims"),
         ("__invert__", "__contains__", "__len__", "__iter__", "__eq__", "__str__")),
+    ("wheelgrown.use.bench", "Bench"): (
+        ("__init__(self, web)", "draw(self, line)", "erase(self, line)", "grow(self, step)", "shrink(self, step)", "join(self, a, b)",
+         "demand(self, pledge)", "waive(self, pledge)", "undo(self, *, many=1)", "redo(self, *, many=1)", "trial(self)",
+         "during(self, call)", "twin(self)"),
+        (),
+        ("web", "level", "pledges"),
+        ("__contains__", "__len__", "__iter__", "__eq__", "__str__")),
+    ("wheelgrown.text.shell", "Shell"): (
+        ("__init__(self, text)", "__call__(self, line)", "answer(self, line)", "bench(self)"),
+        (),
+        (),
+        ("__len__",)),
 }
 
 

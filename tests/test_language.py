@@ -200,10 +200,56 @@ class NamesTest(unittest.TestCase):
 
 class StatementsTest(unittest.TestCase):
     def test_statements_that_are_not_used(self):
-        kinds = (ast.AsyncFunctionDef, ast.Await, ast.Global, ast.GeneratorExp, ast.JoinedStr, ast.Try, ast.Match)
-        for path, node in nodes(kinds):
-            # f-strings may stand; the others would be under rules that this test does not tell.
-            self.assertIsInstance(node, ast.JoinedStr, path)
+        # Some of these could stand under rules that this test does not tell.
+        kinds = (ast.AsyncFunctionDef, ast.Await, ast.Global, ast.GeneratorExp, ast.Match, ast.Nonlocal, ast.NamedExpr, ast.Delete)
+        self.assertEqual(nodes(kinds), [])
+
+    def test_errors_are_own_ones_by_name(self):
+        tree = next(tree for path, tree in TREES.items() if name_of(path) == "wheelgrown.errors")
+        own = {node.name for node in tree.body if isinstance(node, ast.ClassDef)}
+        for path, node in nodes(ast.Raise):
+            self.assertTrue(isinstance(node.exc, ast.Call) and node.exc.func.id in own, (path, node.lineno))
+        for path, function in nodes(ast.FunctionDef):
+            handlers = [node for node in ast.walk(function) if isinstance(node, ast.ExceptHandler)]
+            self.assertTrue(all(isinstance(node.type, ast.Name) and node.type.id in own for node in handlers), (path, function.name))
+            names = [node.name for node in handlers if node.name]
+            bound = [node.id for node in ast.walk(function) if isinstance(node, ast.Name) and not isinstance(node.ctx, ast.Load)]
+            self.assertEqual(len(names), len(set(names) - set(bound)), (path, function.name))
+        self.assertFalse(any(node.finalbody for _, node in nodes(ast.Try)))
+
+    def test_blocks_are_over_calls(self):
+        for path, node in nodes(ast.With):
+            self.assertTrue(all(isinstance(item.context_expr, ast.Call) for item in node.items), path)
+
+    def test_rows_of_exit(self):
+        found = [(path, node) for path, node in nodes(ast.FunctionDef) if node.name == "__exit__"]
+        self.assertEqual(len(found), 1)
+        for path, node in found:
+            for row in node.body:
+                self.assertIsInstance(row, ast.Assign, path)
+                self.assertIsInstance(row.value, (ast.Attribute, ast.Name, ast.Constant), path)
+            self.assertEqual(len([row for row in node.body if isinstance(row.targets[0], ast.Name)]), 1)
+
+    def test_tables_at_module_level_are_only_looked_up(self):
+        for path, tree in TREES.items():
+            tables = [node.targets[0].id for node in tree.body if isinstance(node, ast.Assign) and isinstance(node.value, (ast.Dict, ast.List))]
+            for name in [node for node in ast.walk(tree) if isinstance(node, ast.Name) and node.id in tables and isinstance(node.ctx, ast.Load)]:
+                around = PARENTS[name]
+                looked_up = isinstance(around, ast.Subscript) and around.value is name and isinstance(around.ctx, ast.Load)
+                self.assertTrue(looked_up or isinstance(around, ast.Compare), (path, ast.unparse(around)))
+
+    def test_len_returns_a_length(self):
+        for path, node in nodes(ast.FunctionDef):
+            if node.name == "__len__":
+                self.assertRegex(ast.unparse(node.body[-1]), r"^return len\(", path)
+            if node.name == "__iter__":
+                self.assertRegex(ast.unparse(node.body[-1]), r"^return iter\(self\.\w+(\.\w+)?\)$", path)
+
+    def test_no_attribute_has_the_name_of_a_property_or_a_method(self):
+        inner = {node.name for _, kind in nodes(ast.ClassDef) for node in kind.body if isinstance(node, ast.FunctionDef)}
+        for path, node in nodes(ast.Attribute):
+            if not isinstance(node.ctx, ast.Load):
+                self.assertNotIn(node.attr, inner, path)
 
     def test_no_loop_changes_what_it_walks(self):
         for path, tree in TREES.items():

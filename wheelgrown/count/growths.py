@@ -49,20 +49,27 @@ def count_growths(web):
     return _numbers_along(_way_back(web)).get(web.ties, 0)
 
 
+def _last_with(steps, many, number):
+    """Of the growths with steps, that with a number: its last step, and the ties and the number of what is ahead."""
+    at = 0
+    left = number
+    while left >= many[steps[at][1]]:
+        left -= many[steps[at][1]]
+        at += 1
+    step, ties = steps[at]
+    return step, ties, left
+
+
 def _growth_with(back, many, ties, number):
     """The growth with a number of the web with these ties."""
-    steps = []
+    found = []
     here = ties
     left = number
     while left >= len(back[here][0]):
-        left -= len(back[here][0])
-        for step, other in back[here][1]:
-            if left < many[other]:
-                steps.append(step)
-                here = other
-                break
-            left -= many[other]
-    return (back[here][0][left], tuple(steps[::-1]))
+        wheels, steps = back[here]
+        step, here, left = _last_with(steps, many, left - len(wheels))
+        found.append(step)
+    return (back[here][0][left], tuple(found[::-1]))
 
 
 def each_growth(web):

@@ -1,0 +1,1 @@
+"""Texts of webs, steps, growths and papers, and a shell."""

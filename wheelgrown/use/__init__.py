@@ -1,0 +1,1 @@
+"""A bench, on which webs are worked on."""
