@@ -114,7 +114,8 @@ class OrderTest(unittest.TestCase):
         for web in WHEELS[1:]:
             self.assertEqual((count_growths(web), list(each_growth(web)), growth_at(web, 0)),
                              (1, [(wheels_of(web)[0], ())], (wheels_of(web)[0], ())))
-            self.assertEqual((number_of(web, (wheels_of(web)[0], ())), least_spokes(web), most_spokes(web)), (0, len(web) - 1, len(web) - 1))
+            self.assertEqual((number_of(web, (wheels_of(web)[0], ())), least_spokes(web), most_spokes(web)),
+                (0, len(web) - 1, len(web) - 1))
         self.assertEqual([number_of(FOUR, (wheel, ())) for wheel in wheels_of(FOUR)], [0, 1, 2, 3])
 
     def test_webs_that_are_not_held(self):

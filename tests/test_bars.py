@@ -107,7 +107,8 @@ class BarTest(unittest.TestCase):
             self.check_one_of_both(held_web_of(source, size, many))
 
     def test_all_bars_are_taken(self):
-        for web, many in ((FIVE, 1), (HOUSES, 1), (SIX_FULL, 76), (LONGER, 1), (HOUSES.with_tie("a", "b"), 1), (FIVE.without_tie("a", "b"), 0)):
+        for web, many in ((FIVE, 1), (HOUSES, 1), (SIX_FULL, 76), (LONGER, 1), (HOUSES.with_tie("a", "b"), 1),
+                (FIVE.without_tie("a", "b"), 0)):
             right = bars_by_force(web)
             self.assertEqual(len(right), many)
             self.assertTrue(all(is_bar(web, bar) is True for bar in right))
@@ -137,6 +138,20 @@ class BarTest(unittest.TestCase):
                 self.assertIs(is_bar(web, value), is_bar_by_force(web, value), value)
         self.assertIs(is_bar(HOUSES, five), False)
         self.assertIs(is_bar(FIVE, houses), False)
+
+    def test_tuples_of_other_numbers_of_places(self):
+        for size in (3, 4, 6):
+            places = LETTERS[:size]
+            self.assertIs(is_bar(SIX_FULL, ("five", places, tuple(combinations(places, 2)))), False)
+        for left, right in ((("a", "b"), ("c", "d", "e")), (("a", "b", "c"), ("d", "e")), (("a",), ("b", "c")), ((), ()),
+                            (("a", "b", "c"), ("d", "e", "f", "g")), (("a", "b", "c", "d"), ("e", "f", "g")), (("a", "b"), ("c", "d"))):
+            value = ("houses", (left, right), tuple((a, b) for a in left for b in right))
+            self.assertIs(is_bar(full_web(LETTERS[:7]), value), False)
+        # Houses with a place in common, from which a route of one place leads to itself.
+        for left, right in ((("a", "b", "c"), ("a", "d", "e")), (("a", "b", "c"), ("c", "d", "e"))):
+            routes = tuple((a, b) if a != b else (a,) for a in left for b in right)
+            self.assertIs(is_bar(SIX_FULL, ("houses", (left, right), routes)), False)
+        self.assertIs(is_bar(SIX_FULL, ("houses", (("a", "b", "c"),), ())), False)
 
     def test_routes_that_meet(self):
         web = SIX_FULL

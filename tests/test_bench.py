@@ -21,15 +21,20 @@ from wheelgrown.use.bench import MAX_PLEDGES, Bench
 
 SPLIT = ("split", "h", "k", ("a", "b"))
 NO_LINES = ODD + ODD_TUPLES + (
-    "", "place", "tie", "tie a", "place a b", "tie a b c", "place  a", "place a ", " place a", "tie a  b", "tie a b ", "tie a b\n", "place A", "tie a a",
+    "", "place", "tie", "tie a", "place a b", "tie a b c", "place  a", "place a ", " place a", "tie a  b", "tie a b ", "tie a b\n",
+    "place A", "tie a a",
     "Place a", "place a\nplace b", "tie a,b", "place abcdefghi", "tie a1 b", ("tie", "a", "b"), ("tie a b",), b"place a", WHEEL)
 PLEDGES = (("held",), ("loose",), ("drawable",), ("level", 1), ("level", 2), ("level", 3), ("tied", "a", "b"), ("tied", "a", "zz"),
            ("ways", "a", "b", 0), ("ways", "a", "c", 2), ("ways", "a", "c", 3), ("ways", "b", "h", 10 ** 60 - 1), ("ways", "c", "q", 0))
 NO_PLEDGES = ODD + ODD_TUPLES + (
-    (), ("held", 1), ("held", ()), ("loose", "a"), ("drawable", True), ("level",), ("level", 0), ("level", 4), ("level", True), ("level", "1"), ("level", -1),
-    ("level", 1, 1), ("level", 10 ** 60), ("tied", "a"), ("tied", "b", "a"), ("tied", "a", "a"), ("tied", "a", "b", "c"), ("tied", ("a", "b")), ("tied", "A", "b"),
-    ("ways", "a", "b"), ("ways", "b", "a", 1), ("ways", "a", "a", 1), ("ways", "a", "b", -1), ("ways", "a", "b", True), ("ways", "a", "b", 10 ** 60),
-    ("ways", "a", "b", "1"), ("ways", "a", "b", 1, 1), ("ways", ("a", "b"), 1), ("Held",), ["held"], "held", ("wheel",), ("held", None), WHEEL, (WHEEL,))
+    (), ("held", 1), ("held", ()), ("loose", "a"), ("drawable", True), ("level",), ("level", 0), ("level", 4), ("level", True),
+    ("level", "1"), ("level", -1),
+    ("level", 1, 1), ("level", 10 ** 60), ("tied", "a"), ("tied", "b", "a"), ("tied", "a", "a"), ("tied", "a", "b", "c"),
+    ("tied", ("a", "b")), ("tied", "A", "b"),
+    ("ways", "a", "b"), ("ways", "b", "a", 1), ("ways", "a", "a", 1), ("ways", "a", "b", -1), ("ways", "a", "b", True),
+    ("ways", "a", "b", 10 ** 60),
+    ("ways", "a", "b", "1"), ("ways", "a", "b", 1, 1), ("ways", ("a", "b"), 1), ("Held",), ["held"], "held", ("wheel",), ("held", None),
+    WHEEL, (WHEEL,))
 
 
 def state_of(bench):
@@ -54,11 +59,13 @@ class ExamplesTest(unittest.TestCase):
     def test_bench(self):
         bench = Bench(WHEEL)
         self.assertEqual(
-            [bench.demand(("held",)), bench.grow(("split", "h", "k", ("a", "b"))), bench.level, str(bench), bench.during(lambda same: same.waive(("held",)))],
+            [bench.demand(("held",)), bench.grow(("split", "h", "k", ("a", "b"))), bench.level, str(bench),
+            bench.during(lambda same: same.waive(("held",)))],
             [(), (), 3, "bench of 6 places, 9 ties, 1 pledges", ()])
         check_error(self, Refused, bench.erase, "tie h k", pledge=("held",))
         self.assertEqual(
-            [bench.waive(("held",)), bench.erase("tie h k"), bench.level, bench.demand(("ways", "h", "k", 2)), bench.undo(many=2), ("held",) in bench,
+            [bench.waive(("held",)), bench.erase("tie h k"), bench.level, bench.demand(("ways", "h", "k", 2)), bench.undo(many=2),
+            ("held",) in bench,
              bench.join("h", "k")],
             [(), (3, 2), 2, (), (2, 3), False, ()])
 
@@ -84,7 +91,8 @@ class NewBenchTest(unittest.TestCase):
 class LinesTest(unittest.TestCase):
     def test_drawn_places_and_ties(self):
         bench = Bench(PAIR)
-        self.assertEqual([bench.draw("place d"), bench.draw("tie e c"), bench.draw("tie b c"), bench.draw("tie a d"), bench.draw("tie d e"), bench.draw("place f")],
+        self.assertEqual([bench.draw("place d"), bench.draw("tie e c"), bench.draw("tie b c"), bench.draw("tie a d"),
+            bench.draw("tie d e"), bench.draw("place f")],
                          [(3, 0), (), (), (0, 1), (1, 2), (2, 0)])
         self.assertEqual(bench.web.lines, ("place f", "tie a b", "tie a d", "tie b c", "tie c e", "tie d e"))
 
@@ -144,7 +152,8 @@ class LinesTest(unittest.TestCase):
 
     def test_erased(self):
         bench = Bench(WHEEL)
-        self.assertEqual([bench.erase("tie h a"), bench.erase("place c"), bench.erase("tie a b"), bench.erase("tie a d"), bench.erase("place a")],
+        self.assertEqual([bench.erase("tie h a"), bench.erase("place c"), bench.erase("tie a b"), bench.erase("tie a d"),
+            bench.erase("place a")],
                          [(3, 2), (), (2, 1), (1, 0), (0, 1)])
         self.assertEqual(bench.web.lines, ("tie b h", "tie d h"))
 
@@ -194,7 +203,8 @@ class StepsTest(unittest.TestCase):
 
 class PledgesTest(unittest.TestCase):
     def test_kinds_against_force(self):
-        webs = (SINGLE, PAIR, APART, FOUR, WHEEL, PRISM, FIVE, GLUED, BOW, HOUSES, full_web(("a", "b", "c"))) + tuple(random_webs(random.Random(61), 30, 2, 6))
+        webs = (SINGLE, PAIR, APART, FOUR, WHEEL, PRISM, FIVE, GLUED, BOW, HOUSES,
+            full_web(("a", "b", "c"))) + tuple(random_webs(random.Random(61), 30, 2, 6))
         for web in webs:
             ways = [("ways", a, b, many) for a, b in combinations(web.places[:3], 2) for many in range(5)]
             for pledge in PLEDGES + tuple(ways):
@@ -275,7 +285,8 @@ class PledgesTest(unittest.TestCase):
 
     def test_demands_and_waivers_are_changes(self):
         bench = Bench(WHEEL)
-        self.assertEqual([bench.demand(("held",)), bench.waive(("held",)), bench.demand(("level", 3)), bench.undo(), bench.undo(), bench.pledges],
+        self.assertEqual([bench.demand(("held",)), bench.waive(("held",)), bench.demand(("level", 3)), bench.undo(), bench.undo(),
+            bench.pledges],
                          [(), (), (), (), (), (("held",),)])
         self.assertEqual([bench.redo(many=2), bench.pledges, bench.undo(many=3), bench.pledges], [(), (("level", 3),), (), ()])
 
@@ -291,7 +302,8 @@ class UndoTest(unittest.TestCase):
     def test_several_at_once(self):
         bench = self.made_bench()
         self.assertEqual(bench.level, 0)
-        self.assertEqual([bench.undo(many=2), bench.redo(), bench.redo(), bench.undo(many=3), bench.redo(many=3)], [(0, 2), (2, 1), (1, 0), (0, 3), (3, 0)])
+        self.assertEqual([bench.undo(many=2), bench.redo(), bench.redo(), bench.undo(many=3), bench.redo(many=3)],
+            [(0, 2), (2, 1), (1, 0), (0, 3), (3, 0)])
         self.assertEqual([bench.undo(many=0), bench.redo(many=0), bench.level], [(), (), 0])
 
     def test_more_than_there_are(self):
@@ -332,7 +344,8 @@ class UndoTest(unittest.TestCase):
         bench = self.made_bench()
         bench.undo()
         before = history_of(bench)
-        for call, passed in ((bench.draw, "tie b c"), (bench.erase, "place q"), (bench.grow, None), (bench.shrink, SPLIT), (bench.demand, ("held",)),
+        for call, passed in ((bench.draw, "tie b c"), (bench.erase, "place q"), (bench.grow, None), (bench.shrink, SPLIT),
+                (bench.demand, ("held",)),
                              (bench.waive, ("held",))):
             with self.assertRaises(Exception):
                 call(passed)
@@ -376,17 +389,14 @@ class TrialTest(unittest.TestCase):
             bench.undo()
         self.assertEqual(history_of(bench), [state_of(Bench(WHEEL))])
 
-    def test_one_trial_used_again(self):
+    def test_as_before_the_block(self):
+        # What was done behind the call of `trial` but ahead of the block stays.
         bench = Bench(WHEEL)
         trial = bench.trial()
         bench.erase("tie a b")
-        for _ in range(2):
-            with trial as one:
-                one.erase("place a")
-                with trial as other:
-                    other.erase("place h")
-                    self.assertEqual(len(other.web), 3)
-                self.assertEqual(bench.web, WHEEL - ("a",))
+        for place in ("a", "h"):
+            with trial as same:
+                same.erase(f"place {place}")
             self.assertEqual(bench.web, WHEEL.without_tie("a", "b"))
 
     def test_errors_go_on(self):
@@ -455,7 +465,8 @@ class ValuesTest(unittest.TestCase):
             self.assertIs(pledge in bench, True)
         self.assertTrue(all(line in bench for line in bench.web.lines))
         for value in NOT_WEBS + NO_LINES + NO_PLEDGES + (
-                ("held",), ("tied", "a", "c"), ("ways", "a", "b", 1), "tie b a", "place a", "place q", "tie a e", ("a", "b"), "a", bench, BOW, ["loose"]):
+                ("held",), ("tied", "a", "c"), ("ways", "a", "b", 1), "tie b a", "place a", "place q", "tie a e", ("a", "b"), "a", bench,
+                BOW, ["loose"]):
             if value != "tie a b":
                 self.assertIs(value in bench, False, value)
         self.assertIs("place z" in bench, True)
@@ -475,6 +486,7 @@ class ValuesTest(unittest.TestCase):
         other.waive(("level", 3))
         other.demand(("level", 3))
         self.assertIs(one == other, True)
+        self.assertIs(Bench(WHEEL) == Bench(PRISM), False)
         for value in NOT_WEBS + (WHEEL, WHEEL.lines, Bench(PRISM)):
             self.assertIs(one == value, False)
             self.assertIs(one != value, True)

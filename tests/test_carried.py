@@ -31,7 +31,8 @@ HELD = [web for web in (FOUR, WHEEL, PRISM, FIVE.without_tie("a", "b"), CUBE, GR
 HELD += [wheel_web(("p", LETTERS[:size])) for size in (5, 7, 15)]
 PATH = Web.of_ties(("a", "b"), ("b", "c"))
 NO_DRAWINGS = NOT_WEBS + ODD_TUPLES + (WHEEL, GROWTH, {"a": ("b",)}) + tuple(
-    drawing_of(web) for web in (SINGLE, PAIR, PATH, BOW, GLUED, full_web(("a", "b", "c")), ring_web(LETTERS[:5]), WHEEL.without_tie("a", "b")))
+    drawing_of(web) for web in (SINGLE, PAIR, PATH, BOW, GLUED, full_web(("a", "b", "c")), ring_web(LETTERS[:5]),
+    WHEEL.without_tie("a", "b")))
 
 
 def drawings_of(webs):
@@ -89,7 +90,8 @@ class ExamplesTest(unittest.TestCase):
     def test_carried(self):
         first = drawn_wheel(("h", ("a", "b", "c", "d")))
         self.assertEqual(
-            [first.turns["h"], first.rims[0], carried(first, ("tie", "a", "c")).turns["a"], carried(first, ("split", "h", "k", ("a", "c")))],
+            [first.turns["h"], first.rims[0], carried(first, ("tie", "a", "c")).turns["a"],
+            carried(first, ("split", "h", "k", ("a", "c")))],
             [("a", "b", "c", "d"), ("a", "b", "c", "d"), ("b", "h", "d", "c"), None])
 
     def test_back_and_along(self):

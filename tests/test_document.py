@@ -81,7 +81,8 @@ class ExamplesTest(unittest.TestCase):
 
     def test_constants_of_all_stages(self):
         self.assertEqual({name: value for values in CONSTANTS.values() for name, value in values.items()}, {
-            "MAX_LETTERS": 8, "MAX_FIGURES": 60, "MAX_PLACES": 16, "MAX_TIES": 60, "MAX_WEBS": 500, "MAX_SOUGHT": 8, "MAX_NAMED": 6, "MAX_ALIKE": 7,
+            "MAX_LETTERS": 8, "MAX_FIGURES": 60, "MAX_PLACES": 16, "MAX_TIES": 60, "MAX_WEBS": 500, "MAX_SOUGHT": 8, "MAX_NAMED": 6,
+            "MAX_ALIKE": 7,
             "MAX_PLEDGES": 10})
 
 
@@ -115,7 +116,8 @@ class MainStatementsTest(unittest.TestCase):
     def test_three_ways(self):
         # [0.19]
         for web in [web for web in ALL if 4 <= len(web) <= 7]:
-            three = all(most_ways_of(routes_of(web, a, b)) >= 3 for a, b in combinations(web.places, 2)) if len(web.ties) < 12 else is_held_by_force(web)
+            three = all(most_ways_of(routes_of(web, a, b)) >= 3 for a,
+                b in combinations(web.places, 2)) if len(web.ties) < 12 else is_held_by_force(web)
             self.assertIs(is_held(web), three)
             self.assertIs(all(three_ways(web, a, b) is not None for a, b in combinations(web.places, 2)), three)
             self.assertIs(count_ways(web, *weakest(web)) >= 3, three)
@@ -248,7 +250,8 @@ class OneThingOfOneWebTest(unittest.TestCase):
             pair = (growth.wheel, growth.steps)
             self.assertTrue(is_growth(web, pair) and growth.web == web)
             self.assertIs(is_model(web, growth(0), model_along(growth)), True)
-            self.assertEqual((read_growth(write_growth(pair)), read_paper(write_paper(paper(web))), read_web(write_web(web))), (pair, paper(web), web))
+            self.assertEqual((read_growth(write_growth(pair)), read_paper(write_paper(paper(web))), read_web(write_web(web))),
+                (pair, paper(web), web))
             bench = Bench(growth(0))
             bench.demand(("held",))
             self.assertEqual([bench.grow(step) for step in growth.steps], [()] * len(growth))
@@ -267,7 +270,8 @@ class OneThingOfOneWebTest(unittest.TestCase):
             bench = Bench(web)
             bench.demand(("held",))
             for a, b in web.ties:
-                for change, held in ((lambda same: same.erase(f"tie {a} {b}"), (a, b) in struck_ties(web)), (lambda same: same.join(a, b), (a, b) in joined_ties(web))):
+                for change, held in ((lambda same: same.erase(f"tie {a} {b}"), (a, b) in struck_ties(web)),
+                        (lambda same: same.join(a, b), (a, b) in joined_ties(web))):
                     if held:
                         self.assertEqual(bench.during(change), ())
                     else:

@@ -25,10 +25,12 @@ from wheelgrown.within.models import MAX_SOUGHT, four_of, is_four, is_model, is_
 TRIANGLE = full_web(("x", "y", "z"))
 SMALL_WEBS = tuple(all_webs("a")) + tuple(all_webs("ab")) + tuple(all_webs("abc")) + tuple(all_webs("abcd"))
 DRAWN = tuple(all_webs("abcde"))[::37] + tuple(random_webs(random.Random(51), 60, 5, 7))
-SOUGHT = (SINGLE, PAIR, APART, TRIANGLE, FOUR, ring_web(("a", "b", "c", "d")), Web(("p", "q", "r"), (("p", "q"),)), Web.of_ties(("a", "b"), ("a", "c"), ("a", "d")))
+SOUGHT = (SINGLE, PAIR, APART, TRIANGLE, FOUR, ring_web(("a", "b", "c", "d")), Web(("p", "q", "r"), (("p", "q"),)),
+    Web.of_ties(("a", "b"), ("a", "c"), ("a", "d")))
 MODEL = {"x": ("a", "b"), "y": ("h",), "z": ("c", "d")}
 # A four in a lot of its own, behind other lots, with places that hang on it.
-FAR = Web.of_ties(("a", "b"), ("e", "f"), ("w", "x"), ("x", "y")) + ring_web(("b", "c", "d")) + full_web(("m", "n", "o", "p")) + Web(("z",), ())
+FAR = Web.of_ties(("a", "b"), ("e", "f"), ("w", "x"), ("x", "y")) + ring_web(("b", "c", "d")) + full_web(("m", "n", "o",
+    "p")) + Web(("z",), ())
 
 
 class ExamplesTest(unittest.TestCase):
@@ -69,12 +71,16 @@ class ModelTest(unittest.TestCase):
 
     def test_great_small_webs(self):
         for web, small, there in (
-                (CUBE, FOUR, True), (CUBE, FIVE, False), (CUBE, HOUSES, False), (PRISM, WHEEL, True), (WHEEL, PRISM, False), (FIVE, WHEEL, True),
-                (PRISM, ring_web(LETTERS[:6]), True), (HOUSES, FOUR, True), (HOUSES, PRISM, False), (HOUSES, FIVE, False), (CUBE, CUBE, True),
-                (full_web(LETTERS[:8]), full_web(LETTERS[4:12]), True), (full_web(LETTERS[:8]), CUBE, True), (CUBE, full_web(LETTERS[:8]), False),
+                (CUBE, FOUR, True), (CUBE, FIVE, False), (CUBE, HOUSES, False), (PRISM, WHEEL, True), (WHEEL, PRISM, False),
+                (FIVE, WHEEL, True),
+                (PRISM, ring_web(LETTERS[:6]), True), (HOUSES, FOUR, True), (HOUSES, PRISM, False), (HOUSES, FIVE, False),
+                (CUBE, CUBE, True),
+                (full_web(LETTERS[:8]), full_web(LETTERS[4:12]), True), (full_web(LETTERS[:8]), CUBE, True),
+                (CUBE, full_web(LETTERS[:8]), False),
                 (CUBE.without_tie("a", "b"), CUBE, False), (ring_web(LETTERS[:8]), ring_web(LETTERS[:5]), True),
                 (ring_web(LETTERS[:5]), ring_web(LETTERS[:8]), False), (SINGLE, SINGLE, True), (SINGLE, PAIR, False), (APART, PAIR, False),
-                (PAIR, APART, True), (Web(LETTERS[:8], ()), Web(LETTERS[:8], ()), True), (Web(LETTERS[:8], ()), Web(LETTERS[:9], ()), False),
+                (PAIR, APART, True), (Web(LETTERS[:8], ()), Web(LETTERS[:8], ()), True),
+                (Web(LETTERS[:8], ()), Web(LETTERS[:9], ()), False),
                 (full_web(LETTERS[:8]), Web(LETTERS[:16], ()), False), (FOUR, full_web(LETTERS[:11]), False)):
             self.check_model_in(web, small, there)
         self.assertEqual(model_in(SINGLE, Web(("q",), ())), {"q": ("a",)})
@@ -107,10 +113,14 @@ class ModelTest(unittest.TestCase):
 
     def test_values_that_are_no_models(self):
         for value in ODD + ODD_TUPLES + NOT_WEBS + (
-                WHEEL, {}, {"x": ("a",), "y": ("b",)}, {**MODEL, "w": ("z",)}, {**MODEL, "y": ("a",)}, {**MODEL, "x": ("b", "a")}, {**MODEL, "x": ()},
+                WHEEL, {}, {"x": ("a",), "y": ("b",)}, {**MODEL, "w": ("z",)}, {**MODEL, "y": ("a",)}, {**MODEL, "x": ("b", "a")},
+                {**MODEL, "x": ()},
                 {**MODEL, "x": ("a", "c")}, {**MODEL, "x": ["a", "b"]}, {**MODEL, "y": "h"}, {**MODEL, "y": ("q",)}, tuple(MODEL.items()),
                 {"x": ("a",), "y": ("c",), "z": ("b",)}, {1: ("a",), "y": ("h",), "z": ("c",)}):
             self.assertIs(is_model(WHEEL, TRIANGLE, value), False, value)
+        self.assertIs(is_model(WHEEL, PAIR, {"a": ("a",), "b": ("b",)}), True)
+        for more in ("c", "zz", "A", 1, None):
+            self.assertIs(is_model(WHEEL, PAIR, {"a": ("a",), "b": ("b",), more: ("c",)}), False)
         self.assertIs(is_model(WHEEL, TRIANGLE, {"z": ("c", "d"), "y": ("h",), "x": ("a", "b")}), True)
 
     def test_no_webs(self):
@@ -262,7 +272,8 @@ class FourTest(unittest.TestCase):
         self.assertTrue(all(are_tied_by_force(FAR, one, other) for one in four_of(FAR) for other in four_of(FAR) if one != other))
 
     def test_values_with_one_thing_bent(self):
-        for web, four in ((PRISM, four_of(PRISM)), (FIVE, four_of(FIVE)), (GLUED, four_of(GLUED)), (PRISM, (("a",), ("b",), ("c",), ("d", "e", "f")))):
+        for web, four in ((PRISM, four_of(PRISM)), (FIVE, four_of(FIVE)), (GLUED, four_of(GLUED)),
+                (PRISM, (("a",), ("b",), ("c",), ("d", "e", "f")))):
             for value in bent(four):
                 self.assertIs(is_four(web, value), is_four_by_force(web, value), value)
         for web in (ring_web(("a", "b", "c", "d")), BOW, KITE_WEB):
@@ -270,15 +281,18 @@ class FourTest(unittest.TestCase):
                 self.assertIs(is_peeling(web, value), is_peeling_by_force(web, value), value)
 
     def test_values_of_other_kinds(self):
-        for value in NOT_WEBS + ODD_TUPLES + (WHEEL, ("a", "b", "c"), (("a",), ("b",), ("c",)), (("b",), ("a",), ("c",), ("d",)), WHEEL.places,
-                                             [("a",), ("b",), ("c",), ("d",)], (("a",), ("b",), ("c",), ("d",), ()), (("a",), ("b",), ("c",), ())):
+        for value in NOT_WEBS + ODD_TUPLES + (WHEEL, ("a", "b", "c"), (("a",), ("b",), ("c",)), (("b",), ("a",), ("c",), ("d",)),
+                WHEEL.places,
+                                             [("a",), ("b",), ("c",), ("d",)], (("a",), ("b",), ("c",), ("d",), ()),
+                                             (("a",), ("b",), ("c",), ())):
             for web in (WHEEL, PRISM, ring_web(("a", "b", "c"))):
                 self.assertIs(is_four(web, value), is_four_by_force(web, value))
                 self.assertIs(is_peeling(web, value), is_peeling_by_force(web, value))
 
     def test_great_webs(self):
         source = random.Random(55)
-        for web in (triangulated(source, 16), held_web_of(source, 16, 60), held_web_of(source, 14, 26), full_web(LETTERS[:11]), ring_web(LETTERS[:16])):
+        for web in (triangulated(source, 16), held_web_of(source, 16, 60), held_web_of(source, 14, 26), full_web(LETTERS[:11]),
+                ring_web(LETTERS[:16])):
             self.check_one_of_both(web)
 
     def test_no_webs(self):

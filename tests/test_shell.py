@@ -28,21 +28,31 @@ from wheelgrown.tree.whole import count_kinds
 from wheelgrown.use.bench import Bench
 from wheelgrown.within.models import is_four, is_peeling, peeling_of
 
-ALONE = ("undo", "redo", "lines", "pledges", "blocks", "lots", "level", "paper", "parts", "struck", "joined", "four", "peeling", "drawable", "wheel", "growths",
-         "samenesses")
+ALONE = (
+    "undo", "redo", "lines", "pledges", "blocks", "lots", "level", "paper", "parts", "struck", "joined", "four", "peeling", "drawable",
+    "wheel", "growths", "samenesses")
 WITH_NAMES = ("join", "ways", "three", "gate")
-ERRORS = {"InvalidPlace": "place", "InvalidTie": "tie", "InvalidWeb": "web", "InvalidStep": "step", "InvalidOperation": "operation", "UnknownName": "unknown",
-          "ParseError": "line", "NothingToUndo": "undo"}
+ERRORS = {
+    "InvalidPlace": "place", "InvalidTie": "tie", "InvalidWeb": "web", "InvalidStep": "step", "InvalidOperation": "operation",
+    "UnknownName": "unknown", "ParseError": "line", "NothingToUndo": "undo"}
 ANSWERS_OF_ERRORS = re.compile(r"what|place|tie|web|step|operation|unknown|line|undo|many \d+|refused .*")
-NO_COMMANDS = tuple(word + end for word in ALONE for end in (" ", " a", "\n", " 1", "s")) + tuple(end + word for word in ALONE for end in (" ", "\n", "x")) + tuple(
-    word + end for word in WITH_NAMES for end in ("", " ", " a", " a ", " a b ", "  a b", " a  b", " a b c", " A b", " a b\n", " a,b", " abcdefghi b", " 1 2")) + tuple(
-    word + end for word in ("grow", "shrink") for end in ("", " ", " tie", " tie a", " tie b a", " tie a a", " tie a b ", "  tie a b", " tie a b\n", " split h k with a",
-                                                          " split h k with b a", " split h h with a b", " place a", " wheel h of a b c")) + tuple(
-    word + end for word in ("demand", "waive") for end in (
-        "", " ", " held ", "  held", " Held", " held\n", " held 1", " level", " level ", " level 01", " level -1", " level +1", " level 1 ", " level 1.0", " level a",
-        " level " + "9" * 61, " level 00", " tied", " tied a", " tied a b c", " tied A b", " tied a  b", " ways a b", " ways a b -1", " ways a b 01", " ways a b c", " ways a b 1 1",
-        " ways a b " + "1" * 61, " ways a 1", " ways a b 1\n", " wheel", " drawable x", " loose 1", " nothing", " ('held',)")) + (
-    "", " ", "draw", "erase", "Level", "LEVEL", "what", "quit", "undo 2", "redo many=1", "level;lots", "drawtie a b", "; lots", "tie a b", "place a", "held")
+# What does not stand behind the first words of commands of each kind.
+NO_NAMES = ("", " ", " a", " a ", " a b ", "  a b", " a  b", " a b c", " A b", " a b\n", " a,b", " abcdefghi b", " 1 2")
+NO_STEPS = (
+    "", " ", " tie", " tie a", " tie b a", " tie a a", " tie a b ", "  tie a b", " tie a b\n", " split h k with a", " split h k with b a",
+    " split h h with a b", " place a", " wheel h of a b c")
+NO_PLEDGES = (
+    "", " ", " held ", "  held", " Held", " held\n", " held 1", " held a b", " loose 1", " drawable x", " wheel", " nothing", " ('held',)",
+    " level", " level ", " level 01", " level 00", " level -1", " level +1", " level 1 ", " level 1.0", " level a", " level " + "9" * 61,
+    " level a b 1", " wheel a b 1", " tied", " tied a", " tied a b c", " tied A b", " tied a B", " tied 1 b", " tied a  b", " ways a 1",
+    " ways a b", " ways a b -1", " ways a b 01", " ways a b c", " ways a b 1 1", " ways a b 1\n", " ways a B 1", " ways A b 1",
+    " ways a b " + "1" * 61)
+NO_COMMANDS = (
+    "", " ", "draw", "erase", "Level", "LEVEL", "what", "quit", "undo 2", "redo many=1", "level;lots", "drawtie a b", "; lots", "tie a b",
+    "place a", "held") + tuple(
+    word + end for words, ends in (
+        (ALONE, (" ", " a", "\n", " 1", "s")), (WITH_NAMES, NO_NAMES), (("grow", "shrink"), NO_STEPS), (("demand", "waive"), NO_PLEDGES))
+    for word in words for end in ends) + tuple(start + word for word in ALONE for start in (" ", "\n", "x"))
 
 
 def items_of(answer):
@@ -70,11 +80,13 @@ class ExamplesTest(unittest.TestCase):
     def test_prism(self):
         shell = Shell(write_web(PRISM))
         self.assertEqual(
-            [shell("level"), shell("ways a e"), shell("wheel"), shell("demand held"), shell("shrink split a d with e f"), shell("wheel"), shell("erase tie a b"),
+            [shell("level"), shell("ways a e"), shell("wheel"), shell("demand held"), shell("shrink split a d with e f"), shell("wheel"),
+            shell("erase tie a b"),
              shell("struck")],
             ["3", "3", "no", "nothing", "nothing", "yes", "refused held", "nothing"])
         self.assertEqual(
-            [shell("undo"), shell("lots"), shell("blocks"), shell("three a e"), shell("peeling"), shell("growths"), shell("undo"), shell("undo"), shell("join a a"),
+            [shell("undo"), shell("lots"), shell("blocks"), shell("three a e"), shell("peeling"), shell("growths"), shell("undo"),
+            shell("undo"), shell("join a a"),
              len(shell)],
             ["nothing", "a b c d e f", "a b c d e f", "a b e; a c f e; a d e", "none", "6", "nothing", "undo", "tie", 14])
 
@@ -104,7 +116,8 @@ class NewShellTest(unittest.TestCase):
 class LookingTest(unittest.TestCase):
     """The commands that change nothing, each against the functions of the other headings."""
 
-    WEBS = (WHEEL, PRISM, FIVE, GLUED, BOW, FOUR, SINGLE, PAIR, APART, CHAIN, KITE_WEB, full_web(("a", "b", "c")), ring_web(LETTERS[:6]), Web(("a", "b", "c"), (("a", "c"),)),
+    WEBS = (WHEEL, PRISM, FIVE, GLUED, BOW, FOUR, SINGLE, PAIR, APART, CHAIN, KITE_WEB, full_web(("a", "b", "c")), ring_web(LETTERS[:6]),
+        Web(("a", "b", "c"), (("a", "c"),)),
             GREAT[0], PRISM.with_place("z"))
 
     def test_lines_blocks_and_lots(self):
@@ -137,8 +150,10 @@ class LookingTest(unittest.TestCase):
                     gate = shell(f"gate {one} {other}")
                     self.assertTrue(is_least_gate(web, one, other, () if gate == "-" else tuple(gate.split(" "))))
             for command in ("ways", "three", "gate"):
-                self.assertEqual([shell(f"{command} a a"), shell(f"{command} a zz"), shell(f"{command} zz zz")], ["operation", "unknown", "unknown"])
-        self.assertEqual([made_shell(PAIR)("gate a b"), made_shell(GLUED)("gate c f"), made_shell(APART)("ways a b"), made_shell(APART)("three a b")], ["-", "a b", "0", "none"])
+                self.assertEqual([shell(f"{command} a a"), shell(f"{command} a zz"), shell(f"{command} zz zz")],
+                    ["operation", "unknown", "unknown"])
+        self.assertEqual([made_shell(PAIR)("gate a b"), made_shell(GLUED)("gate c f"), made_shell(APART)("ways a b"),
+            made_shell(APART)("three a b")], ["-", "a b", "0", "none"])
 
     def test_ties_that_can_be_spared(self):
         for web in self.WEBS:
@@ -147,7 +162,8 @@ class LookingTest(unittest.TestCase):
             self.assertEqual(shell("struck"), told(struck_ties(web)) if held else "operation")
             self.assertEqual(shell("joined"), told(joined_ties(web)) if held else "operation")
             self.assertEqual(len(shell), 2 * held)
-        self.assertEqual([made_shell(WHEEL)("struck"), made_shell(WHEEL)("joined"), made_shell(FOUR)("joined")], ["nothing", "a b; a d; b c; c d", "nothing"])
+        self.assertEqual([made_shell(WHEEL)("struck"), made_shell(WHEEL)("joined"), made_shell(FOUR)("joined")],
+            ["nothing", "a b; a d; b c; c d", "nothing"])
 
     def test_fours_and_peelings(self):
         for web in self.WEBS:
@@ -156,7 +172,8 @@ class LookingTest(unittest.TestCase):
             self.assertIs(four == "none", order != "none")
             self.assertTrue(is_four(web, rows_of(four)) if order == "none" else is_peeling(web, tuple(order.split(" "))))
             self.assertEqual(len(shell), 2)
-        self.assertEqual([made_shell(FOUR)("four"), made_shell(SINGLE)("peeling"), made_shell(PAIR)("peeling")], ["a; b; c; d", "a", " ".join(peeling_of(PAIR))])
+        self.assertEqual([made_shell(FOUR)("four"), made_shell(SINGLE)("peeling"), made_shell(PAIR)("peeling")],
+            ["a; b; c; d", "a", " ".join(peeling_of(PAIR))])
 
     def test_drawable(self):
         for web in self.WEBS:
@@ -181,14 +198,17 @@ class ChangingTest(unittest.TestCase):
     def test_news(self):
         shell = made_shell(WHEEL)
         self.assertEqual(
-            [shell("erase tie b a"), shell("erase place h"), shell("draw tie h q"), shell("undo"), shell("undo"), shell("redo"), shell("redo"), shell("redo"), shell("lines")],
-            ["from 3 to 2", "from 2 to 1", "from 1 to 0", "from 0 to 1", "from 1 to 2", "from 2 to 1", "from 1 to 0", "undo", "tie a d; tie b c; tie c d; tie h q"])
+            [shell("erase tie b a"), shell("erase place h"), shell("draw tie h q"), shell("undo"), shell("undo"), shell("redo"),
+            shell("redo"), shell("redo"), shell("lines")],
+            ["from 3 to 2", "from 2 to 1", "from 1 to 0", "from 0 to 1", "from 1 to 2", "from 2 to 1", "from 1 to 0", "undo",
+            "tie a d; tie b c; tie c d; tie h q"])
         self.assertEqual(len(shell), 8)
 
     def test_steps(self):
         shell = made_shell(WHEEL)
         self.assertEqual(
-            [shell("grow split h k with a b"), shell("grow tie a c"), shell("shrink tie a c"), shell("shrink split h k with a b"), shell("grow tie a b"), shell("shrink tie a c"),
+            [shell("grow split h k with a b"), shell("grow tie a c"), shell("shrink tie a c"), shell("shrink split h k with a b"),
+            shell("grow tie a b"), shell("shrink tie a c"),
              shell("join h a"), shell("join a z"), shell("join b d")],
             ["nothing", "nothing", "nothing", "nothing", "step", "step", "from 3 to 2", "unknown", "tie"])
         self.assertEqual((shell("lines"), len(shell)), ("tie b c; tie b h; tie c d; tie c h; tie d h", 6))
@@ -196,22 +216,28 @@ class ChangingTest(unittest.TestCase):
     def test_pledges(self):
         shell = made_shell(WHEEL)
         for pledge in ("held", "drawable", "level 2", "tied a b", "ways a c 3", "ways a b 0"):
-            self.assertEqual((shell("waive " + pledge), shell("demand " + pledge), shell("demand " + pledge)), ("operation", "nothing", "operation"))
+            self.assertEqual((shell("waive " + pledge), shell("demand " + pledge), shell("demand " + pledge)),
+                ("operation", "nothing", "operation"))
         self.assertEqual(shell("pledges"), "held; drawable; level 2; tied a b; ways a c 3; ways a b 0")
-        self.assertEqual([shell("demand loose"), shell("demand ways a c 4"), shell("demand tied a c"), shell("demand ways a c " + "9" * 60)],
+        self.assertEqual([shell("demand loose"), shell("demand ways a c 4"), shell("demand tied a c"),
+            shell("demand ways a c " + "9" * 60)],
                          ["refused loose", "refused ways a c 4", "refused tied a c", "refused ways a c " + "9" * 60])
         # These have the text of a pledge, but are none.
         for text in ("level 0", "level 4", "level " + "9" * 60, "tied b a", "tied a a", "ways b a 1", "ways a a 0"):
             self.assertEqual((shell("demand " + text), shell("waive " + text)), ("operation", "operation"))
-        self.assertEqual([shell("erase tie h a"), shell("waive held"), shell("erase tie a h"), shell("waive ways a c 3"), shell("erase tie a h"), shell("pledges")],
-                         ["refused held", "nothing", "refused ways a c 3", "nothing", "from 3 to 2", "drawable; level 2; tied a b; ways a b 0"])
+        self.assertEqual([shell("erase tie h a"), shell("waive held"), shell("erase tie a h"), shell("waive ways a c 3"),
+            shell("erase tie a h"), shell("pledges")],
+                         ["refused held", "nothing", "refused ways a c 3", "nothing", "from 3 to 2",
+                         "drawable; level 2; tied a b; ways a b 0"])
         self.assertEqual(made_shell(WHEEL)("pledges"), "nothing")
 
     def test_answers_of_errors(self):
         shell = made_shell(WHEEL)
         self.assertEqual(
-            [shell("draw place a"), shell("draw tie a b"), shell("draw place"), shell("draw "), shell("draw  tie a c"), shell("erase tie a c"), shell("erase place q"),
-             shell("erase tie"), shell("grow tie a b"), shell("waive held"), shell("undo"), shell("redo"), shell("join a c"), shell("join a q")],
+            [shell("draw place a"), shell("draw tie a b"), shell("draw place"), shell("draw "), shell("draw  tie a c"),
+            shell("erase tie a c"), shell("erase place q"),
+             shell("erase tie"), shell("grow tie a b"), shell("waive held"), shell("undo"), shell("redo"), shell("join a c"),
+             shell("join a q")],
             ["place", "tie", "line", "line", "line", "tie", "unknown", "line", "step", "operation", "undo", "undo", "tie", "unknown"])
         self.assertEqual(made_shell(SINGLE)("erase place a"), "web")
         great = made_shell(ring_web(LETTERS[:16]))
@@ -262,9 +288,12 @@ class AgainstBenchTest(unittest.TestCase):
         places = sorted({*web.places, "x", "y"})
         moved = " ".join(sorted(source.sample(places, 2)))
         return source.choice((
-            f"draw tie {a} {b}", f"draw place {a}", f"erase tie {a} {b}", f"erase place {a}", f"join {a} {b}", f"grow tie {min(a, b)} {max(a, b)}", f"shrink tie {min(a, b)} {max(a, b)}",
-            f"grow split {a} {b} with {moved}", f"shrink split {a} {b} with {moved}", "undo", "undo", "redo", "redo", "demand held", "demand level 2", "waive level 2", "demand loose",
-            "waive held", "waive loose", f"demand tied {a} {b}", f"waive tied {a} {b}", f"demand ways {a} {b} 2", f"waive ways {a} {b} 2", "demand drawable", "waive drawable", "draw x"))
+            f"draw tie {a} {b}", f"draw place {a}", f"erase tie {a} {b}", f"erase place {a}", f"join {a} {b}",
+            f"grow tie {min(a, b)} {max(a, b)}", f"shrink tie {min(a, b)} {max(a, b)}",
+            f"grow split {a} {b} with {moved}", f"shrink split {a} {b} with {moved}", "undo", "undo", "redo", "redo", "demand held",
+            "demand level 2", "waive level 2", "demand loose",
+            "waive held", "waive loose", f"demand tied {a} {b}", f"waive tied {a} {b}", f"demand ways {a} {b} 2", f"waive ways {a} {b} 2",
+            "demand drawable", "waive drawable", "draw x"))
 
     def done(self, bench, command):
         """What the bench tells of a command, as an answer."""
@@ -303,7 +332,8 @@ class AgainstBenchTest(unittest.TestCase):
                 seen.add(right.split(" ")[0])
                 self.assertEqual((len(shell), shell.bench()), (many, bench))
             self.assertEqual(history_of(shell.bench()), history_of(bench))
-        self.assertEqual(seen, {"what", "place", "tie", "step", "operation", "unknown", "line", "undo", "refused", "from", "nothing", "web"})
+        self.assertEqual(seen, {"what", "place", "tie", "step", "operation", "unknown", "line", "undo", "refused", "from", "nothing",
+            "web"})
 
     def test_texts_of_steps(self):
         shell = made_shell(WHEEL)

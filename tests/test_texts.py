@@ -18,9 +18,11 @@ from wheelgrown.text.texts import read_growth, read_paper, read_step, read_web, 
 
 NAME = "[a-z]{1,8}"
 SPLIT = ("split", "h", "k", ("a", "b"))
-STEP_VALUES = (SPLIT, ("tie", "a", "b"), ("tie", "abcdefgh", "z"), ("split", "with", "split", ("a", "of", "tie")), ("split", "z", "a", LETTERS[1:15]),
+STEP_VALUES = (SPLIT, ("tie", "a", "b"), ("tie", "abcdefgh", "z"), ("split", "with", "split", ("a", "of", "tie")),
+    ("split", "z", "a", LETTERS[1:15]),
                ("tie", "split", "with"), ("split", "of", "with", ("split", "wheel"))) + last_steps(PRISM) + tuple(split_steps(WHEEL, "new"))
-GROWTH_VALUES = ((WHEEL_OF_FOUR, ()), (WHEEL_OF_FOUR, STEPS), (WHEEL_OF_FOUR, STEPS[::-1]), (("of", ("a", "tie", "wheel")), (("tie", "x", "y"), ("tie", "x", "y"))),
+GROWTH_VALUES = ((WHEEL_OF_FOUR, ()), (WHEEL_OF_FOUR, STEPS), (WHEEL_OF_FOUR, STEPS[::-1]),
+    (("of", ("a", "tie", "wheel")), (("tie", "x", "y"), ("tie", "x", "y"))),
                  (("p", LETTERS[:15]), (SPLIT,) * 40)) + tuple((growth.wheel, growth.steps) for growth in DRAWN + (GROWTH, LONG))
 PAPER_VALUES = tuple(("small", count) for count in (1, 2, 3)) + (
     ("parted", ()), ("parted", ("a",)), ("parted", ("a", "b")), ("parted", ("parted", "small")), ("parted", ("grown",))) + tuple(
@@ -121,12 +123,14 @@ def bent_texts(text):
 class ExamplesTest(unittest.TestCase):
     def test_webs_steps_and_papers(self):
         self.assertEqual(
-            [read_web("tie b a\nplace c").lines, write_step(("split", "h", "k", ("a", "b"))), read_step("tie a b"), write_paper(("parted", ()))],
+            [read_web("tie b a\nplace c").lines, write_step(("split", "h", "k", ("a", "b"))), read_step("tie a b"),
+            write_paper(("parted", ()))],
             [("place c", "tie a b"), "split h k with a b", ("tie", "a", "b"), "parted -"])
 
     def test_growths_and_papers(self):
         self.assertEqual(
-            [write_growth((("h", ("a", "b", "c", "d")), (("tie", "a", "c"),))), read_paper("grown\nwheel h of a b c d"), read_paper("small 2")],
+            [write_growth((("h", ("a", "b", "c", "d")), (("tie", "a", "c"),))), read_paper("grown\nwheel h of a b c d"),
+            read_paper("small 2")],
             ["wheel h of a b c d\ntie a c", ("grown", ("h", ("a", "b", "c", "d")), ()), ("small", 2)])
 
 
@@ -149,7 +153,8 @@ class WebTest(unittest.TestCase):
                     self.assertEqual(read_web(text).lines, right)
 
     def test_as_from_lines(self):
-        for text, number in (("", 0), ("\n", 0), ("place a\n", 1), ("\nplace a", 0), ("place a\n\nplace b", 1), ("place a\nplace a", 1), ("tie a b\ntie b a", 1),
+        for text, number in (("", 0), ("\n", 0), ("place a\n", 1), ("\nplace a", 0), ("place a\n\nplace b", 1), ("place a\nplace a", 1),
+                ("tie a b\ntie b a", 1),
                              ("tie a b\nplace a\ntie  a c", 2), ("place a;place b", 0), ("tie a a", 0)):
             check_error(self, ParseError, read_web, text, number=number)
         self.assertEqual(read_web("tie a b\nplace a").lines, ("tie a b",))
@@ -184,8 +189,10 @@ class StepTest(unittest.TestCase):
 
     def test_values_that_are_no_steps(self):
         for value in ODD + ODD_TUPLES + (
-                WHEEL, (), ("tie", "b", "a"), ("tie", "a", "a"), ("tie", "a"), ("tie", "a", "b", "c"), ("split", "h", "h", ("a", "b")), ("split", "h", "k", ("a",)),
-                ("split", "h", "k", ("b", "a")), ("split", "h", "k", ("h", "l")), ("split", "h", "a", ("a", "b")), ("split", "h", "k", ["a", "b"]), "tie a b"):
+                WHEEL, (), ("tie", "b", "a"), ("tie", "a", "a"), ("tie", "a"), ("tie", "a", "b", "c"), ("split", "h", "h", ("a", "b")),
+                ("split", "h", "k", ("a",)),
+                ("split", "h", "k", ("b", "a")), ("split", "h", "k", ("h", "l")), ("split", "h", "a", ("a", "b")),
+                ("split", "h", "k", ["a", "b"]), "tie a b"):
             check_error(self, InvalidStep, write_step, value)
 
     def test_texts_with_one_thing_bent(self):
@@ -199,8 +206,10 @@ class StepTest(unittest.TestCase):
 
     def test_texts_that_are_none(self):
         for text in NO_TEXTS + ODD + (
-                "", " ", "tie", "tie a", "tie b a", "tie a a", "tie a b c", "tie a  b", " tie a b", "tie a b ", "tie a b\n", "tie A b", "split h k", "split h k with",
-                "split h k with a", "split h k with b a", "split h k with a a", "split h h with a b", "split h k with h l", "split h k  with a b", "split h k of a b",
+                "", " ", "tie", "tie a", "tie b a", "tie a a", "tie a b c", "tie a  b", " tie a b", "tie a b ", "tie a b\n", "tie A b",
+                "split h k", "split h k with",
+                "split h k with a", "split h k with b a", "split h k with a a", "split h h with a b", "split h k with h l",
+                "split h k  with a b", "split h k of a b",
                 "split h k a b", "split h k with a b\ntie a b", "wheel h of a b c", "place a"):
             check_error(self, ParseError, read_step, text, number=None)
 
@@ -226,7 +235,8 @@ class GrowthTest(unittest.TestCase):
 
     def test_no_growths(self):
         for value in NOT_WEBS + ODD_TUPLES + NO_WHEELS + (
-                GROWTH, (WHEEL_OF_FOUR,), (WHEEL_OF_FOUR, (), ()), [WHEEL_OF_FOUR, ()], (WHEEL_OF_FOUR, []), (WHEEL_OF_FOUR, None), (WHEEL_OF_FOUR, (None,)),
+                GROWTH, (WHEEL_OF_FOUR,), (WHEEL_OF_FOUR, (), ()), [WHEEL_OF_FOUR, ()], (WHEEL_OF_FOUR, []), (WHEEL_OF_FOUR, None),
+                (WHEEL_OF_FOUR, (None,)),
                 (WHEEL_OF_FOUR, STEPS[0]), (WHEEL_OF_FOUR, (("tie", "b", "a"),)), ((), ())):
             check_error(self, InvalidGrowth, write_growth, value)
         for wheel in NO_WHEELS:
@@ -252,9 +262,12 @@ class GrowthTest(unittest.TestCase):
                     self.assertEqual((read_growth(text), write_growth(right)), (right, text))
 
     def test_the_first_line_that_is_none(self):
-        for text, number in (("", 0), ("\n", 0), ("wheel h of a b", 0), ("wheel h of a c b", 0), ("wheel h of a b c\n", 1), ("wheel h of a b c\ntie b a\n", 1),
-                             ("wheel h of a b c\ntie a b\nwheel h of a b c", 2), ("wheel h of a b c\ntie a b\n\ntie a c", 2), ("tie a b", 0), ("grown\nwheel h of a b c", 0),
-                             ("wheel a of a b c", 0), ("wheel h  of a b c", 0), ("wheel h of", 0), ("wheel", 0), ("wheel q of " + " ".join(LETTERS[:16]), 0)):
+        for text, number in (("", 0), ("\n", 0), ("wheel h of a b", 0), ("wheel h of a c b", 0), ("wheel h of a b c\n", 1),
+                ("wheel h of a b c\ntie b a\n", 1),
+                             ("wheel h of a b c\ntie a b\nwheel h of a b c", 2), ("wheel h of a b c\ntie a b\n\ntie a c", 2),
+                             ("tie a b", 0), ("grown\nwheel h of a b c", 0),
+                             ("wheel a of a b c", 0), ("wheel h  of a b c", 0), ("wheel h of", 0), ("wheel", 0),
+                             ("wheel q of " + " ".join(LETTERS[:16]), 0)):
             check_error(self, ParseError, read_growth, text, number=number)
         for text in NO_TEXTS:
             check_error(self, ParseError, read_growth, text, number=None)
@@ -279,14 +292,18 @@ class PaperTest(unittest.TestCase):
             text = write_paper(value)
             self.assertEqual((read_paper(text), paper_by_force(text.split("\n"))), (value, value))
             self.assertEqual(texts.setdefault(text, value), value)
-        self.assertEqual([write_paper(value) for value in PAPER_VALUES[:6]], ["small 1", "small 2", "small 3", "parted -", "parted a", "parted a b"])
+        self.assertEqual([write_paper(value) for value in PAPER_VALUES[:6]],
+            ["small 1", "small 2", "small 3", "parted -", "parted a", "parted a b"])
         self.assertEqual(write_paper(PAPER_VALUES[9]), "grown\nwheel h of a b c d\nsplit h k with a b\ntie a c")
 
     def test_no_papers(self):
         for value in NOT_WEBS + ODD_TUPLES + (
-                GROWTH, ("small", 0), ("small", 4), ("small", True), ("small", "1"), ("small",), ("small", 1, 1), ("parted",), ("parted", None), ("parted", ("b", "a")),
-                ("parted", ("a", "a")), ("parted", ("a", "b", "c")), ("parted", ["a"]), ("parted", "a"), ("parted", (1,)), ("parted", (), ()), ("grown",), ("grown", WHEEL_OF_FOUR),
-                ("grown", (WHEEL_OF_FOUR, ())), ("grown", WHEEL_OF_FOUR, [], ()), ("grown", WHEEL_OF_FOUR, []), ("Small", 1), ["small", 1], "small 1", (None, 1)):
+                GROWTH, ("small", 0), ("small", 4), ("small", True), ("small", "1"), ("small",), ("small", 1, 1), ("parted",),
+                ("parted", None), ("parted", ("b", "a")),
+                ("parted", ("a", "a")), ("parted", ("a", "b", "c")), ("parted", ["a"]), ("parted", "a"), ("parted", (1,)),
+                ("parted", (), ()), ("grown",), ("grown", WHEEL_OF_FOUR),
+                ("grown", (WHEEL_OF_FOUR, ())), ("grown", WHEEL_OF_FOUR, [], ()), ("grown", WHEEL_OF_FOUR, []), ("Small", 1), ["small", 1],
+                "small 1", (None, 1)):
             check_error(self, InvalidOperation, write_paper, value)
 
     def test_values_with_one_thing_bent(self):
@@ -303,7 +320,8 @@ class PaperTest(unittest.TestCase):
                 check_error(self, InvalidOperation, write_paper, value)
 
     def test_texts_with_one_thing_bent(self):
-        for value in (("small", 2), ("parted", ("a", "b")), ("parted", ("a",)), ("parted", ()), ("grown", WHEEL_OF_FOUR, STEPS), ("grown", ("b", ("a", "c", "d")), ())):
+        for value in (("small", 2), ("parted", ("a", "b")), ("parted", ("a",)), ("parted", ()), ("grown", WHEEL_OF_FOUR, STEPS),
+                ("grown", ("b", ("a", "c", "d")), ())):
             for text in bent_texts(write_paper(value)):
                 right = paper_by_force(text.split("\n"))
                 if isinstance(right, int):
@@ -312,9 +330,12 @@ class PaperTest(unittest.TestCase):
                     self.assertEqual((read_paper(text), write_paper(right)), (right, text))
 
     def test_the_first_line_that_is_none(self):
-        for text, number in (("", 0), ("small 0", 0), ("small 4", 0), ("small 01", 0), ("small", 0), ("small 1\n", 1), ("small 1\nsmall 1", 1), ("small 1\nx\ny", 1), ("x\ny", 0),
-                             ("parted", 0), ("parted ", 0), ("parted b a", 0), ("parted a a", 0), ("parted a b c", 0), ("parted - a", 0), ("parted -\n", 1), ("parted a b\ngrown", 1),
-                             ("grown", 1), ("grown\n", 1), ("grown\nsmall 1", 1), ("grown\nwheel h of a b c\n", 2), ("grown\nwheel h of a b c\ntie a b\ntie b a", 3), ("grown ", 0),
+        for text, number in (("", 0), ("small 0", 0), ("small 4", 0), ("small 01", 0), ("small", 0), ("small 1\n", 1),
+                ("small 1\nsmall 1", 1), ("small 1\nx\ny", 1), ("x\ny", 0),
+                             ("parted", 0), ("parted ", 0), ("parted b a", 0), ("parted a a", 0), ("parted a b c", 0), ("parted - a", 0),
+                             ("parted -\n", 1), ("parted a b\ngrown", 1),
+                             ("grown", 1), ("grown\n", 1), ("grown\nsmall 1", 1), ("grown\nwheel h of a b c\n", 2),
+                             ("grown\nwheel h of a b c\ntie a b\ntie b a", 3), ("grown ", 0),
                              (" grown", 0), ("wheel h of a b c", 0), ("small 1 ", 0), ("small  1", 0), ("small \n1", 0)):
             check_error(self, ParseError, read_paper, text, number=number)
         for text in NO_TEXTS:

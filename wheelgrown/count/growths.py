@@ -45,7 +45,6 @@ def _numbers_along(back):
 
 def count_growths(web):
     """The number of all growths of the web."""
-    check_web(web)
     return _numbers_along(_way_back(web)).get(web.ties, 0)
 
 
@@ -74,7 +73,6 @@ def _growth_with(back, many, ties, number):
 
 def each_growth(web):
     """All growths of the web: those without steps first, the others by ascending last steps."""
-    check_web(web)
     back = _way_back(web)
     many = _numbers_along(back)
     for number in range(many.get(web.ties, 0)):
@@ -112,7 +110,6 @@ def number_of(web, value):
 
 def _all_spokes(web):
     """The list of the numbers of spokes of all wheels on the way back from a web."""
-    check_web(web)
     return [len(ring) for wheels, _ in _way_back(web).values() for _, ring in wheels]
 
 

@@ -2,7 +2,7 @@
 
 from wheelgrown.base.webs import check_place, check_web, told_by
 from wheelgrown.base.words import is_count
-from wheelgrown.errors import InvalidNumber, InvalidOperation, InvalidTie, NothingToUndo, ParseError, Refused, TooMany
+from wheelgrown.errors import InvalidNumber, InvalidOperation, NothingToUndo, ParseError, Refused, TooMany
 from wheelgrown.grow.steps import web_ahead, web_behind
 from wheelgrown.use.pledges import holds, is_pledge
 from wheelgrown.use.stands import Trial, first_stand
@@ -22,8 +22,6 @@ def _with_item(web, item):
     """The web with a place more, or with a tie and its places more."""
     if isinstance(item, str):
         return web.with_place(item)
-    if item in web.ties:
-        raise InvalidTie("these places are tied already")
     made = web
     for place in item:
         if place not in made.places:
@@ -146,19 +144,16 @@ class Bench:
         return other
 
     def __contains__(self, value):
-        return value in self._stand.rows or (is_pledge(value) and value in self._stand.demands)
+        return value in self._stand.rows or (is_pledge(value) and value in self.pledges)
 
     def __len__(self):
-        return len(self._stand.demands)
+        return len(self.pledges)
 
     def __iter__(self):
         return iter(self._stand.rows)
 
     def __eq__(self, other):
-        if not isinstance(other, Bench):
-            return False
-        return self._stand.work == other._stand.work and self._stand.demands == other._stand.demands
+        return isinstance(other, Bench) and self.web == other.web and self.pledges == other.pledges
 
     def __str__(self):
-        web = self._stand.work
-        return f"bench of {len(web.places)} places, {len(web.ties)} ties, {len(self._stand.demands)} pledges"
+        return f"bench of {len(self.web.places)} places, {len(self.web.ties)} ties, {len(self.pledges)} pledges"

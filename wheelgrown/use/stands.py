@@ -34,26 +34,17 @@ def first_stand(web):
     return Stand(((web, (), held_level(web)),), 0)
 
 
-class Kept:
-    """A stand that is kept while a trial lasts, and what the same trial had kept before."""
-
-    def __init__(self, stand, outer):
-        self.stand = stand
-        self.outer = outer
-
-
 class Trial:
     """A block behind which a bench is as it was before."""
 
     def __init__(self, table):
         self.table = table
-        self.kept = None
+        self.before = None
 
     def __enter__(self):
-        self.kept = Kept(self.table._stand, self.kept)
+        self.before = self.table._stand
         return self.table
 
     def __exit__(self, kind, value, trace):
         table = self.table
-        table._stand = self.kept.stand
-        self.kept = self.kept.outer
+        table._stand = self.before
