@@ -110,11 +110,11 @@ def _longer(near, route, free, closing):
 
 
 def _bare_rings_from(near, start):
-    """The list of the plain bare rings of which `start` is the least index, not all if there are too many."""
+    """The list of the plain bare rings of which `start` is the least index, as tuples of indices."""
     later = full_mask(len(near)) & ~full_mask(start + 1)
     waiting = [((start, second), later & ~(1 << second)) for second in bits_of(near[start] & later)]
     found = []
-    while waiting and len(found) <= MAX_BARE:
+    while waiting:
         route, free = waiting.pop()
         routes, rings = _longer(near, route, free, near[start])
         waiting.extend(routes)
