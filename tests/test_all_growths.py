@@ -158,7 +158,7 @@ class LimitTest(unittest.TestCase):
         check_error(self, TooMany, most_spokes, web, limit=limit)
 
     def test_just_as_many_webs_as_there_may_be(self):
-        # No web has just 500, so that the limit is set to what a web has.
+        # No web was found with just 500, so that the limit is set to what a web has.
         for web in (FOUR, WHEEL, PRISM, FIVE, UNEVEN, NEARLY):
             many = len(webs_back(web))
             told = count_growths(web)
